@@ -1,0 +1,1 @@
+"""Makefirst: batches of changes let in one at a time, and the one order that always works."""
