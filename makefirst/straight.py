@@ -1,0 +1,59 @@
+"""Orders of a batch's cells, set one at a time: whether they are straight, and two that always are."""
+
+from makefirst.errors import Refused
+from makefirst.layers import sure_layers
+from makefirst.plain import are_below
+from makefirst.stores import cell_kind, check_batch, lets_at, unlike_cells
+
+
+def is_cell_order(start, goal, value):
+    """Whether any value is a sequence of all cells in which two states are unlike, each once."""
+    return are_below(value, len(start)) and sorted(value) == list(unlike_cells(start, goal))
+
+
+def fault_on_way(store, start, goal, order):
+    """None for a straight order, else the index in it and the laid check that is broken first."""
+    state = list(start)
+    for at, cell in enumerate(order):
+        state[cell] = goal[cell]
+        # The state was good, so only checks that look at this cell can be broken now.
+        for number in store.laid_on(cell):
+            if not lets_at(store, state, number):
+                return at, number
+    return None
+
+
+def is_straight(store, old, new, value):
+    """Whether any value is an order of the batch with good states alone on the way."""
+    start, goal = check_batch(store, old, new)
+    return is_cell_order(start, goal, value) and fault_on_way(store, start, goal, value) is None
+
+
+def first_fault(store, old, new, value):
+    """None for a straight order, else the index of the first cell behind which a laid check is broken, and this."""
+    start, goal = check_batch(store, old, new)
+    if not is_cell_order(start, goal, value):
+        raise Refused(value)
+    return fault_on_way(store, start, goal, value)
+
+
+def by_layers(store, start, goal, layers):
+    """The cells in which two states are unlike, by the layers of their kinds, ascending within one."""
+    order = []
+    kinds = {cell: cell_kind(store, start, goal, cell) for cell in unlike_cells(start, goal)}
+    for layer in layers:
+        order.extend([cell for cell, kind in kinds.items() if kind in layer])
+    return tuple(order)
+
+
+def sorted_cells(store, old, new):
+    """The batch's cells by the layers of all kinds of the book; Knotted if the book is not ranked."""
+    start, goal = check_batch(store, old, new)
+    return by_layers(store, start, goal, sure_layers(store.book))
+
+
+def told_cells(store, old, new):
+    """The batch's cells by the layers of their own kinds alone; Knotted if these have a knot."""
+    start, goal = check_batch(store, old, new)
+    kinds = [cell_kind(store, start, goal, cell) for cell in unlike_cells(start, goal)]
+    return by_layers(store, start, goal, sure_layers(store.book, kinds))

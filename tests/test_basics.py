@@ -1,0 +1,244 @@
+"""Promises [1] and [2], of all functions that have landed, and the interface's names and arguments."""
+
+import ast
+import importlib
+import inspect
+import pathlib
+import unittest
+
+from makefirst.books import Book
+from makefirst.stores import Store
+from support import MOST, REFERS, any_values, frozen, result_of, strict, thawed
+
+PACKAGE = pathlib.Path(__file__).parent.parent / "makefirst"
+
+INTERFACE = {
+    "errors": {
+        "BatchError": None, "BadBook": "(at)", "BadStore": "(at)", "BadState": "(at)", "BadText": "(at)", "Refused": "(at)",
+        "TooGreat": "(most)", "Knotted": "(kinds)", "NoKind": "(kind)", "NoCell": "(cell)", "NoCheck": "(check)",
+    },
+    "books": {
+        "Book": "(columns, checks=())", "kinds_of": "(book)", "need_kind": "(book, value)", "need_check": "(book, value)",
+        "check_kinds": "(book, value)", "unlike_by": "(book, check, one, other)",
+    },
+    "stores": {
+        "Store": "(book, cells, laid=())", "need_cell": "(store, value)", "check_state": "(store, value)",
+        "row_at": "(store, state, number)", "broken": "(store, state)", "is_good": "(store, state)",
+        "check_batch": "(store, old, new)", "batch_cells": "(store, old, new)", "batch_kind": "(store, old, new, cell)",
+    },
+    "texts": {
+        "book_text": "(book)", "read_book": "(text)", "store_text": "(store)", "read_store": "(text)",
+        "state_text": "(store, state)", "read_state": "(store, text)",
+    },
+    "layers": {
+        "is_let": "(book, behind, kind, kinds=None)", "layers_of": "(book, kinds=None)", "knot_of": "(book, kinds=None)",
+        "is_ranked": "(book, kinds=None)", "knot_papers": "(book, kinds=None)", "papers_hold": "(book, value, kinds=None)",
+    },
+    "rankings": {
+        "check_order": "(book, value)", "is_ranking": "(book, value)", "check_ranking": "(book, value)",
+        "least_ranking": "(book)", "openings_of": "(book, *, most)", "rankings_many": "(book, *, most)",
+        "nth_ranking": "(book, number, *, most)", "ranking_place": "(book, ranking, *, most)",
+    },
+    "straight": {
+        "is_straight": "(store, old, new, value)", "first_fault": "(store, old, new, value)",
+        "sorted_cells": "(store, old, new)", "told_cells": "(store, old, new)",
+    },
+}
+
+BOOK = Book([2, 2], [REFERS])
+ALIKE = Book([2], [((0, 0), [(0, 0), (1, 1)])])
+STORE = Store(BOOK, [1, 0, 0], [(0, (1, 0)), (0, (2, 0))])
+ORDER = [[1, 0, 1], [0, 0, 1], [0, 1, 0], [1, 1, 0]]
+
+# (file, name, arguments, most), the arguments as lists.
+CALLS = [
+    ("books", "Book", [[2, 3], [[[0, 1], [[1, 2], [0, 0], [1, 2]]]]], None),
+    ("books", "kinds_of", [BOOK], None),
+    ("books", "need_kind", [BOOK, [0, 0, 1]], None),
+    ("books", "need_kind", [BOOK, [0, 0, True]], None),
+    ("books", "need_check", [BOOK, 0], None),
+    ("books", "need_check", [BOOK, False], None),
+    ("books", "check_kinds", [BOOK, [[1, 1, 0], [0, 0, 1], [1, 1, 0]]], None),
+    ("books", "check_kinds", [BOOK, [[1, 1, 1]]], None),
+    ("books", "unlike_by", [BOOK, 0, [0, 1], [1, 0]], None),
+    ("books", "unlike_by", [BOOK, 0, [0, 1], [1, 2]], None),
+    ("stores", "Store", [BOOK, [1, 0], [[0, [1, 0]]]], None),
+    ("stores", "need_cell", [STORE, 2], None),
+    ("stores", "need_cell", [STORE, [2]], None),
+    ("stores", "check_state", [STORE, [1, 0, 1]], None),
+    ("stores", "check_state", [STORE, [1, 0, 2]], None),
+    ("stores", "row_at", [STORE, [1, 0, 1], 1], None),
+    ("stores", "row_at", [STORE, [1, 0, 1], 2], None),
+    ("stores", "broken", [STORE, [0, 1, 1]], None),
+    ("stores", "is_good", [STORE, [1, 1, 1]], None),
+    ("stores", "check_batch", [STORE, [0, 0, 0], [1, 0, 1]], None),
+    ("stores", "check_batch", [STORE, [0, 0, 0], [0, 0, 1]], None),
+    ("stores", "batch_cells", [STORE, [0, 0, 0], [1, 0, 1]], None),
+    ("stores", "batch_kind", [STORE, [0, 0, 0], [1, 0, 1], 2], None),
+    ("stores", "batch_kind", [STORE, [0, 0, 0], [1, 0, 1], 1], None),
+    ("texts", "book_text", [BOOK], None),
+    ("texts", "read_book", ["columns 2 2\ncheck 0 1: 00 01 11"], None),
+    ("texts", "read_book", ["columns 2 2\ncheck 0 1: 00 01 10 "], None),
+    ("texts", "store_text", [STORE], None),
+    ("texts", "read_store", ["columns 2\ncheck 0: 0\ncells 0 0\nlaid 0: 1"], None),
+    ("texts", "state_text", [STORE, [1, 0, 1]], None),
+    ("texts", "read_state", [STORE, "1 0 1"], None),
+    ("layers", "is_let", [BOOK, [[1, 0, 1]], [0, 0, 1], [[0, 0, 1], [1, 0, 1]]], None),
+    ("layers", "is_let", [BOOK, [[1, 0, 1]], [0, 0, 1], [[0, 0, 1], [1, 1, 1]]], None),
+    ("layers", "layers_of", [BOOK, [[0, 0, 1], [1, 0, 1], [0, 0, 1]]], None),
+    ("layers", "layers_of", [BOOK], None),
+    ("layers", "knot_of", [ALIKE, [[0, 0, 1], [0, 1, 0]]], None),
+    ("layers", "is_ranked", [ALIKE, [[0, 0, 1]]], None),
+    ("layers", "knot_papers", [ALIKE, [[0, 0, 1], [0, 1, 0]]], None),
+    ("layers", "papers_hold", [ALIKE, [[[0, 0, 1], 0, [0, 0], [1, 1], [0]]], [[0, 0, 1], [0, 1, 0]]], None),
+    ("rankings", "check_order", [BOOK, ORDER], None),
+    ("rankings", "is_ranking", [BOOK, ORDER], None),
+    ("rankings", "check_ranking", [BOOK, ORDER], None),
+    ("rankings", "check_ranking", [BOOK, ORDER[::-1]], None),
+    ("rankings", "least_ranking", [BOOK], None),
+    ("rankings", "least_ranking", [ALIKE], None),
+    ("rankings", "openings_of", [BOOK], 9),
+    ("rankings", "openings_of", [BOOK], 8),
+    ("rankings", "rankings_many", [BOOK], 9),
+    ("rankings", "nth_ranking", [BOOK, 5], 9),
+    ("rankings", "nth_ranking", [BOOK, 6], 9),
+    ("rankings", "ranking_place", [BOOK, ORDER], 9),
+    ("straight", "is_straight", [STORE, [0, 0, 0], [1, 0, 1], [0, 2]], None),
+    ("straight", "first_fault", [STORE, [0, 0, 0], [1, 0, 1], [2, 0]], None),
+    ("straight", "first_fault", [STORE, [0, 0, 0], [1, 0, 1], [2, 1]], None),
+    ("straight", "sorted_cells", [STORE, [0, 0, 0], [1, 0, 1]], None),
+    ("straight", "told_cells", [STORE, [1, 0, 1], [0, 0, 0]], None),
+]
+
+
+def shown(value):
+    """A form of a result, an error, or an argument that tells all of it."""
+    if isinstance(value, Book):
+        return "book", strict(value.columns), strict(value.checks)
+    if isinstance(value, Store):
+        return "store", shown(value.book), strict(value.cells), strict(value.laid)
+    if isinstance(value, Exception):
+        kept = [getattr(value, name) for name in ("at", "most", "kinds", "kind", "cell", "check") if hasattr(value, name)]
+        return type(value).__name__, shown(frozen(kept))
+    if isinstance(value, (list, tuple)):
+        return type(value).__name__, tuple(shown(item) for item in value)
+    return strict(value)
+
+
+def has_list(value):
+    """Whether a value is a list or has one within."""
+    return isinstance(value, list) or isinstance(value, tuple) and any(has_list(item) for item in value)
+
+
+def find(file, name):
+    return getattr(importlib.import_module("makefirst." + file), name)
+
+
+class Basics(unittest.TestCase):
+
+    def each(self):
+        for file, name, args, most in CALLS:
+            call = find(file, name)
+            named = {} if most is None else {"most": most}
+            yield call, args, named
+
+    def test_by_position_and_by_names(self):
+        for call, args, named in self.each():
+            want = shown(result_of(call, *args, **named))
+            names = list(inspect.signature(call).parameters)
+            by_names = dict(zip(names, args))
+            self.assertEqual(shown(result_of(call, **by_names, **named)), want)
+            self.assertEqual(shown(result_of(call, **dict(reversed(by_names.items())), **named)), want)
+            self.assertEqual(shown(result_of(call, *args[:1], **dict(zip(names[1:], args[1:])), **named)), want)
+
+    def test_lists_and_tuples(self):
+        for call, args, named in self.each():
+            want = shown(result_of(call, *args, **named))
+            self.assertEqual(shown(result_of(call, *[frozen(arg) for arg in args], **named)), want)
+            self.assertEqual(shown(result_of(call, *[thawed(arg) for arg in args], **named)), want)
+
+    def test_results_are_tuples(self):
+        for call, args, named in self.each():
+            result = result_of(call, *args, **named)
+            if not isinstance(result, Exception):
+                self.assertFalse(has_list(result))
+
+    def test_equal_calls_give_equal_results_whatever_was_called_between(self):
+        first = [shown(result_of(call, *args, **named)) for call, args, named in self.each()]
+        for call, args, named in list(self.each())[::-1]:
+            result_of(call, *args, **named)
+        self.assertEqual([shown(result_of(call, *args, **named)) for call, args, named in self.each()], first)
+
+    def test_arguments_do_not_change(self):
+        for call, args, named in self.each():
+            before = shown(args)
+            result_of(call, *args, **named)
+            self.assertEqual(shown(args), before)
+
+    def test_later_changes_of_arguments_have_no_effect(self):
+        for call, args, named in self.each():
+            own = [thawed(arg) for arg in args]
+            result = result_of(call, *own, **named)
+            if isinstance(result, Exception):
+                continue
+            before = shown(result)
+            for arg in own:
+                self.spoil(arg)
+            self.assertEqual(shown(result), before)
+
+    def spoil(self, value):
+        if isinstance(value, list):
+            for item in value:
+                self.spoil(item)
+            value.append(None)
+            value[0] = None
+
+    def test_a_call_that_raises_changes_nothing(self):
+        for value in any_values():
+            for file, name, args, most in CALLS:
+                call = find(file, name)
+                named = {} if most is None else {"most": most}
+                for at in range(1, len(args)):
+                    own = args[:at] + [value] + args[at + 1:]
+                    before = shown(own)
+                    result_of(call, *own, **named)
+                    self.assertEqual(shown(own), before)
+
+    def test_no_bool_is_taken_for_an_integer(self):
+        for call, args in (
+            (find("books", "need_kind"), [BOOK, [0, False, True]]), (find("books", "need_check"), [BOOK, False]),
+            (find("stores", "need_cell"), [STORE, True]), (find("stores", "check_state"), [STORE, [True, False, False]]),
+            (Book, [[True]]), (Store, [BOOK, [False]]), (find("rankings", "check_order"), [Book([2]), [[0, 0, 1], [0, True, 0]]]),
+            (find("straight", "first_fault"), [STORE, [0, 0, 0], [1, 0, 0], [False]]),
+        ):
+            self.assertIsInstance(result_of(call, *args), Exception)
+
+
+class Interface(unittest.TestCase):
+
+    def test_names_and_arguments(self):
+        for file, names in INTERFACE.items():
+            for name, signature in names.items():
+                if signature is not None:
+                    self.assertEqual(str(inspect.signature(find(file, name))), signature, name)
+
+    def test_defined_in_their_files(self):
+        for file, names in INTERFACE.items():
+            tree = ast.parse((PACKAGE / (file + ".py")).read_text())
+            own = {node.name for node in tree.body if isinstance(node, (ast.FunctionDef, ast.ClassDef))}
+            self.assertLessEqual(set(names), own)
+
+    def test_each_is_called_here(self):
+        called = {(file, name) for file, name, _, _ in CALLS}
+        for file, names in INTERFACE.items():
+            if file != "errors":
+                self.assertEqual({name for own, name in called if own == file}, set(names))
+
+    def test_attributes_are_set(self):
+        self.assertEqual((BOOK.columns, len(BOOK.checks)), ((2, 2), 1))
+        self.assertEqual((STORE.book, STORE.cells, len(STORE.laid)), (BOOK, (1, 0, 0), 2))
+        self.assertEqual(Book([2], [MOST]).checks, (MOST,))
+
+
+if __name__ == "__main__":
+    unittest.main()
