@@ -138,13 +138,13 @@ def unlike_by(book, check, one, other):
     for row in (one, other):
         if not is_row_of(book, check, row):
             raise Refused(row)
-    return tuple(sorted(unlike_places(book, check, one, other)))
+    return tuple(sorted(unlike_places(book.checks[check][0], one, other)))
 
 
-def unlike_places(book, check, one, other):
-    """By kind the ascending places at which the one row becomes the other one by this kind."""
+def unlike_places(places, one, other):
+    """By kind the ascending places at which the one row, of these columns, becomes the other one by this kind."""
     found = {}
-    for place, column in enumerate(book.checks[check][0]):
+    for place, column in enumerate(places):
         if one[place] != other[place]:
             found.setdefault((column, one[place], other[place]), []).append(place)
     return found
@@ -159,11 +159,11 @@ def bars_of_check(book, check):
     """The bars of a check; one of each lot."""
     bits = kind_bits(book)
     found = {}
-    rows = book.checks[check][1]
+    places, rows = book.checks[check]
     for one in rows:
         for other in rows:
-            changes = unlike_places(book, check, one, other)
-            barred = sum([bits[kind] for kind, places in spoilt_changes(book, check, one, other, changes)])
+            changes = unlike_places(places, one, other)
+            barred = sum([bits[kind] for kind, _ in spoilt_changes(book, check, one, other, changes)])
             if barred:
                 lot = sum([bits[kind] for kind in changes])
                 found[lot] = found.get(lot, 0) | barred

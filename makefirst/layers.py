@@ -126,7 +126,7 @@ def least_papers(book, free):
         rows = book.checks[check][1]
         for one in rows:
             for other in rows:
-                changes = unlike_places(book, check, one, other)
+                changes = unlike_places(book.checks[check][0], one, other)
                 if is_within(sum([bits[kind] for kind in changes]), free):
                     for kind, places in spoilt_changes(book, check, one, other, changes):
                         found.setdefault(kind, (kind, check, one, other, places))
@@ -166,7 +166,7 @@ def is_paper(book, lot, kind, check, rows, places):
         if not is_row_of(book, check, row) or not book.lets(check, tuple(row)):
             return False
     one, other = rows
-    changes = unlike_places(book, check, one, other)
+    changes = unlike_places(book.checks[check][0], one, other)
     if not is_within(lot_of(book, changes), lot):
         return False
     if not are_some_of(places, changes.get(tuple(kind), [])):

@@ -16,6 +16,11 @@ def are_below(value, limit):
     return is_sequence(value) and is_row(value, [limit] * len(value))
 
 
+def are_ascending(value, limit):
+    """Whether any value is an ascending sequence of numbers below the limit."""
+    return are_below(value, limit) and list(value) == sorted(set(value))
+
+
 def is_row(value, limits):
     """Whether any value is a sequence of one number for each limit, below it."""
     if not is_sequence(value) or len(value) != len(limits):

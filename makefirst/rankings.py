@@ -4,9 +4,10 @@ Lots of kinds are sums of their bits here, as kind_bits tells.
 """
 
 from makefirst.books import are_kinds, kind_bits, kinds_of
-from makefirst.errors import Knotted, Refused, TooGreat
+from makefirst.errors import Knotted, Refused
 from makefirst.layers import all_bars, first_of, is_within, kinds_in, knot_of
 from makefirst.plain import is_below
+from makefirst.searches import bits_in, count_ways, nth_way, search_lots, way_place
 
 
 def is_order(book, value):
@@ -61,81 +62,41 @@ def least_ranking(book):
     return tuple(ranking)
 
 
-def search_openings(book, most):
-    """By opening, as a lot, its next ones by kind, both ascending by length; TooGreat if there are more."""
-    bits = kind_bits(book)
+def opening_steps(book):
+    """The steps from opening to opening, as makefirst.searches tells."""
     bars = all_bars(book)
-    whole = sum(bits.values())
-    found = {0: {}}
-    waiting = [0]
-    while waiting:
-        further = []
-        for opening in waiting:
-            for kind in kinds_in(book, first_of(bars, whole - opening)):
-                longer = opening + bits[kind]
-                found[opening][kind] = longer
-                if longer not in found:
-                    found[longer] = {}
-                    further.append(longer)
-            if len(found) > most:
-                raise TooGreat(most)
-        waiting = further
-    return found
+    whole = sum(kind_bits(book).values())
+    return lambda opening: [opening + bit for bit in bits_in(first_of(bars, whole - opening))]
 
 
 def openings_of(book, *, most):
     """All openings, ascending, each an ascending tuple of kinds."""
-    return tuple(sorted([kinds_in(book, opening) for opening in search_openings(book, most)]))
+    return tuple(sorted([kinds_in(book, opening) for opening in search_lots(opening_steps(book), most)]))
 
 
-def count_rankings(book, openings):
-    """By opening in how many ways it can be gone on with to a ranking."""
-    whole = sum(kind_bits(book).values())
-    ways = {}
-    for opening in reversed(list(openings)):
-        ways[opening] = 1 if opening == whole else sum([ways[longer] for longer in openings[opening].values()])
-    return ways
+def count_rankings(book, steps, most):
+    """By opening in how many ways it can be gone on with to a ranking; TooGreat if there are more openings."""
+    return count_ways(search_lots(steps, most), steps, sum(kind_bits(book).values()))
 
 
 def rankings_many(book, *, most):
     """How many rankings there are."""
-    return count_rankings(book, search_openings(book, most))[0]
+    return count_rankings(book, opening_steps(book), most)[0]
 
 
 def nth_ranking(book, number, *, most):
     """The ranking of a number, all being ascending; Refused for any value that is no such number."""
-    openings = search_openings(book, most)
-    ways = count_rankings(book, openings)
+    steps = opening_steps(book)
+    ways = count_rankings(book, steps, most)
     if not is_below(number, ways[0]):
         raise Refused(number)
-    ranking = []
-    opening = 0
-    left = number
-    while openings[opening]:
-        kind, left = kind_at(openings[opening], ways, left)
-        ranking.append(kind)
-        opening = openings[opening][kind]
-    return tuple(ranking)
-
-
-def kind_at(longer_by, ways, number):
-    """The next kind of the ranking of a number below all ways, and its number of those that go on so."""
-    left = number
-    for kind, longer in longer_by.items():
-        if left < ways[longer]:
-            break
-        left -= ways[longer]
-    return kind, left
+    kinds = {bit: kind for kind, bit in kind_bits(book).items()}
+    return tuple([kinds[bit] for bit in nth_way(ways, steps, sum(kinds), number)])
 
 
 def ranking_place(book, ranking, *, most):
     """The number of a ranking, all being ascending; Refused for any value that is none."""
     order = check_ranking(book, ranking)
-    openings = search_openings(book, most)
-    ways = count_rankings(book, openings)
-    place = opening = 0
-    for chosen in order:
-        longer_by = openings[opening]
-        place += sum([ways[longer] for kind, longer in longer_by.items() if kind < chosen])
-        opening = longer_by[chosen]
-    return place
+    steps = opening_steps(book)
+    bits = kind_bits(book)
+    return way_place(count_rankings(book, steps, most), steps, [bits[kind] for kind in order])

@@ -11,22 +11,41 @@ def is_cell_order(start, goal, value):
     return are_below(value, len(start)) and sorted(value) == list(unlike_cells(start, goal))
 
 
-def fault_on_way(store, start, goal, order):
-    """None for a straight order, else the index in it and the laid check that is broken first."""
+def looking_at(store, group):
+    """The ascending numbers of the laid checks that look at some of these cells."""
+    return sorted({number for cell in group for number in store.laid_on(cell)})
+
+
+def fault_on_way(store, start, goal, groups):
+    """None if all states behind groups of cells, each set at one go, are good; else the first that is not.
+
+    It is told as the index of the group and the least number of a laid check that is broken behind it.
+    """
     state = list(start)
-    for at, cell in enumerate(order):
-        state[cell] = goal[cell]
-        # The state was good, so only checks that look at this cell can be broken now.
-        for number in store.laid_on(cell):
+    for at, group in enumerate(groups):
+        for cell in group:
+            state[cell] = goal[cell]
+        # The state was good, so only checks that look at these cells can be broken now.
+        for number in looking_at(store, group):
             if not lets_at(store, state, number):
                 return at, number
     return None
 
 
+def fault_of_order(store, start, goal, order):
+    """None for a straight order, else the index in it and the laid check that is broken first."""
+    return fault_on_way(store, start, goal, [(cell,) for cell in order])
+
+
+def is_straight_order(store, start, goal, value):
+    """Whether any value is an order of all cells in which two states are unlike, with good states alone on the way."""
+    return is_cell_order(start, goal, value) and fault_of_order(store, start, goal, value) is None
+
+
 def is_straight(store, old, new, value):
     """Whether any value is an order of the batch with good states alone on the way."""
     start, goal = check_batch(store, old, new)
-    return is_cell_order(start, goal, value) and fault_on_way(store, start, goal, value) is None
+    return is_straight_order(store, start, goal, value)
 
 
 def first_fault(store, old, new, value):
@@ -34,7 +53,7 @@ def first_fault(store, old, new, value):
     start, goal = check_batch(store, old, new)
     if not is_cell_order(start, goal, value):
         raise Refused(value)
-    return fault_on_way(store, start, goal, value)
+    return fault_of_order(store, start, goal, value)
 
 
 def by_layers(store, start, goal, layers):

@@ -4,7 +4,7 @@ import itertools
 import random
 
 from makefirst.books import Book
-from makefirst.errors import NoKind, Refused
+from makefirst.errors import BadState, NoKind, Refused
 from makefirst.stores import Store
 
 MOST = ((0, 0), ((0, 0), (0, 1), (1, 0)))
@@ -199,6 +199,109 @@ def laid_everywhere(book, cells):
         by_place = [[cell for cell, own in enumerate(cells) if own == column] for column in places]
         laid += [(check, row) for row in itertools.product(*by_place)]
     return Store(book, cells, laid)
+
+
+def batch_lot(old, new):
+    """The ascending cells in which two states are unlike."""
+    return tuple(cell for cell in range(len(old)) if old[cell] != new[cell])
+
+
+def with_set(old, new, lot):
+    """The old state with a lot of cells set as in the new one."""
+    return tuple(new[cell] if cell in lot else old[cell] for cell in range(len(old)))
+
+
+def groups_of(cells, size):
+    """All lots of one to so many of the cells, each an ascending tuple."""
+    return [group for many in range(1, min(size, len(cells)) + 1) for group in itertools.combinations(cells, many)]
+
+
+def plain_reached(old, new, size, lets):
+    """All lots of the batch to which groups of at most this size lead by states that are let, the empty one among them."""
+    cells, known = batch_lot(old, new), {}
+    found, waiting = {()}, [()]
+    while waiting:
+        lot = waiting.pop()
+        for group in groups_of([cell for cell in cells if cell not in lot], size):
+            longer = tuple(sorted(lot + group))
+            if longer not in known:
+                known[longer] = lets(with_set(old, new, longer))
+            if known[longer] and longer not in found:
+                found.add(longer)
+                waiting.append(longer)
+    return found
+
+
+def dealings(cells):
+    """All ways to deal the cells to ascending lots, none empty, one behind another."""
+    if not cells:
+        return [()]
+    return [
+        (lot,) + behind
+        for lot in lots(cells) if lot
+        for behind in dealings([cell for cell in cells if cell not in lot])
+    ]
+
+
+def some_laid(book, cells, many, choice):
+    """A store with some checks laid at random on its cells, so many of each."""
+    laid = []
+    for check, (places, _) in enumerate(book.checks):
+        by_place = [[cell for cell, own in enumerate(cells) if own == column] for column in places]
+        for _ in range(many if all(by_place) else 0):
+            laid.append((check, tuple(choice.choice(own) for own in by_place)))
+    return Store(book, cells, laid)
+
+
+def good_stores(many, seed, sizes=(3, 4), **named):
+    """So many (store, good states), the same for each seed."""
+    choice = random.Random(seed)
+    found = []
+    for book in some_books(4 * many, seed, **named):
+        count = choice.choice(sizes)
+        cells = [choice.randrange(len(book.columns)) for _ in range(count)]
+        store = some_laid(book, cells, choice.choice((1, 2, 3)), choice)
+        good = good_states(store)
+        if len(good) > 1 and len(found) < many:
+            found.append((store, good))
+    return found
+
+
+def some_pairs(good, many, choice):
+    """So many batches of good states."""
+    return [(choice.choice(good), choice.choice(good)) for _ in range(many)]
+
+
+def plain_told_store(book, pairs, kinds, many, spare):
+    """(cells, laid, old, new): so many cells of each kind, then so many of each value that stays, ascending.
+
+    Pairs are (check, one, other): the check is laid on all rows of unlike cells that have these values, old and new.
+    """
+    fates = [kind for kind in kinds for _ in range(many)]
+    staying, laid = set(), set()
+    for check, one, other in pairs:
+        staying |= {(column, one[at]) for at, column in enumerate(book.checks[check][0]) if one[at] == other[at]}
+    fates += [(column, value, value) for column, value in sorted(staying) for _ in range(spare)]
+    for check, one, other in pairs:
+        wanted = list(zip(book.checks[check][0], one, other))
+        by_place = [[cell for cell, fate in enumerate(fates) if fate == want] for want in wanted]
+        laid |= {(check, row) for row in itertools.product(*by_place) if len(set(row)) == len(row)}
+    cells, old, new = zip(*fates)
+    return cells, tuple(sorted(laid)), old, new
+
+
+def bad_ends(store, good, bad):
+    """(old, new, error, at) for old and new states that are none, or not good; at is the value itself for Refused."""
+    many = len(good)
+    wrong = list(good[:-1]) + [9]
+    for value, error, at in (
+        (None, BadState, -1), (good[:-1], BadState, -1), (wrong, BadState, many - 1),
+        (list(good[:-1]) + [True], BadState, many - 1), (list(bad), Refused, None),
+    ):
+        kept = value if error is Refused else at
+        yield value, bad, error, kept
+        yield value, None, error, kept
+        yield good, value, error, kept
 
 
 def all_tables(sizes):

@@ -43,6 +43,19 @@ INTERFACE = {
         "is_straight": "(store, old, new, value)", "first_fault": "(store, old, new, value)",
         "sorted_cells": "(store, old, new)", "told_cells": "(store, old, new)",
     },
+    "barring": {
+        "way_holds": "(store, old, new, value, size=1)", "straight_way": "(store, old, new, size=1, *, most)",
+        "barring_store": "(book, size=1)",
+    },
+    "plans": {
+        "plan_holds": "(store, old, new, value)", "round_plan": "(store, old, new)",
+        "fewest_rounds": "(store, old, new, *, most)",
+    },
+    "slow": {"slow_papers": "(book)", "slow_store": "(book)"},
+    "hulls": {
+        "suits_paper": "(book, check, ranking)", "suits": "(book, check, ranking)",
+        "hull_rows": "(book, places, rows, ranking)", "hull_book": "(book, ranking)", "fewest_added": "(book, *, most)",
+    },
 }
 
 BOOK = Book([2, 2], [REFERS])
@@ -108,6 +121,26 @@ CALLS = [
     ("straight", "first_fault", [STORE, [0, 0, 0], [1, 0, 1], [2, 1]], None),
     ("straight", "sorted_cells", [STORE, [0, 0, 0], [1, 0, 1]], None),
     ("straight", "told_cells", [STORE, [1, 0, 1], [0, 0, 0]], None),
+    ("barring", "way_holds", [STORE, [0, 0, 0], [1, 0, 1], [[0], [2]], 2], None),
+    ("barring", "way_holds", [STORE, [0, 0, 0], [1, 0, 1], [[0, 2]], 0], None),
+    ("barring", "straight_way", [STORE, [0, 0, 0], [1, 0, 1], 2], 4),
+    ("barring", "straight_way", [STORE, [0, 0, 0], [1, 0, 1]], 1),
+    ("barring", "barring_store", [ALIKE, 2], None),
+    ("barring", "barring_store", [BOOK, 2], None),
+    ("plans", "plan_holds", [STORE, [0, 0, 0], [1, 0, 1], [[0], [2]]], None),
+    ("plans", "round_plan", [STORE, [0, 0, 0], [1, 0, 1]], None),
+    ("plans", "fewest_rounds", [STORE, [0, 0, 0], [1, 0, 1]], 4),
+    ("plans", "fewest_rounds", [STORE, [0, 0, 0], [1, 0, 1]], 3),
+    ("slow", "slow_papers", [BOOK], None),
+    ("slow", "slow_store", [BOOK], None),
+    ("slow", "slow_store", [ALIKE], None),
+    ("hulls", "suits_paper", [BOOK, 0, ORDER[::-1]], None),
+    ("hulls", "suits", [BOOK, 0, ORDER], None),
+    ("hulls", "hull_rows", [BOOK, [0, 1], [[0, 1], [1, 0]], ORDER], None),
+    ("hulls", "hull_rows", [BOOK, [0, 1], [[0, 2], [1, 0]], ORDER], None),
+    ("hulls", "hull_book", [BOOK, ORDER[::-1]], None),
+    ("hulls", "fewest_added", [BOOK], 24),
+    ("hulls", "fewest_added", [BOOK], 23),
 ]
 
 
@@ -198,7 +231,7 @@ class Basics(unittest.TestCase):
             for file, name, args, most in CALLS:
                 call = find(file, name)
                 named = {} if most is None else {"most": most}
-                for at in range(1, len(args)):
+                for at in [at for at in range(1, len(args)) if not isinstance(args[at], (Book, Store))]:
                     own = args[:at] + [value] + args[at + 1:]
                     before = shown(own)
                     result_of(call, *own, **named)

@@ -46,7 +46,8 @@ LAYERS_AND_RANKINGS = '''
     ((((0, 0, 1), 0, (0, 0), (1, 1), (0,)), ((0, 1, 0), 0, (1, 1), (0, 0), (0,))), True, True)
 '''
 
-STRAIGHT = '''
+STRAIGHT_WAYS = '''
+    >>> from makefirst.barring import barring_store, straight_way, way_holds
     >>> from makefirst.books import Book
     >>> from makefirst.stores import Store
     >>> from makefirst.straight import first_fault, is_straight, sorted_cells, told_cells
@@ -56,10 +57,50 @@ STRAIGHT = '''
     ((0, 2), (0, 2))
     >>> is_straight(one, (1, 0, 0), (0, 0, 1), [0, 2])
     True
-    >>> laid = [(check, (less, more)) for check in (0, 1) for less in (0, 1, 2) for more in (3, 4, 5)]
-    >>> store = Store(Book([2], [most, least]), (0,) * 6, laid)
-    >>> told_cells(store, (0, 0, 0, 1, 1, 1), (0, 0, 0, 1, 1, 1))
-    ()
+    >>> store, old, new = barring_store(Book([2], [most, least]))
+    >>> store.cells, old, new, len(store.laid), store.laid[0]
+    ((0, 0, 0, 0, 0, 0), (0, 0, 0, 1, 1, 1), (1, 1, 1, 0, 0, 0), 18, (0, (0, 3)))
+    >>> straight_way(store, old, new, most=99), way_holds(store, old, new, [(0, 3), (1, 4), (2, 5)], 2)
+    (None, False)
+    >>> told_cells(store, old, (0, 0, 0, 1, 1, 1)), straight_way(one, (1, 0, 0), (0, 0, 1), 2, most=99) is None
+    ((), False)
+'''
+
+# The document makes the books of this one by makefirst.families, which has not landed.
+ROUNDS = '''
+    >>> from makefirst.books import Book
+    >>> from makefirst.plans import fewest_rounds, plan_holds, round_plan
+    >>> from makefirst.slow import slow_papers, slow_store
+    >>> from makefirst.stores import Store
+    >>> refers = ((0, 0), (0, 1), (1, 1))
+    >>> shop = Book((2, 2, 2), [((1, 0), refers), ((2, 1), refers)])
+    >>> store = Store(shop, (0, 1, 2), [(0, (1, 0)), (1, (2, 1))])
+    >>> round_plan(store, (0, 0, 0), (1, 1, 1)), round_plan(store, (1, 1, 0), (0, 0, 0))
+    (((0,), (1,), (2,)), ((1,), (0,)))
+    >>> fewest_rounds(store, (0, 0, 0), (1, 1, 1), most=8)
+    3
+    >>> plan_holds(store, (0, 0, 0), (1, 1, 1), [[0], [1], [2]]), plan_holds(store, (0, 0, 0), (1, 1, 1), [[1, 0], [2]])
+    (True, False)
+    >>> pair = Book((2,), [((0, 0), ((0, 0), (0, 1), (1, 0)))])
+    >>> slow_papers(pair)
+    (((0, 0, 1), 0, (0, 1), (1, 0), (0,)),)
+    >>> slow, old, new = slow_store(pair)
+    >>> slow.cells, slow.laid, old, new, fewest_rounds(slow, old, new, most=16)
+    ((0, 0, 0, 0), ((0, (0, 2)), (0, (0, 3)), (0, (1, 2)), (0, (1, 3))), (0, 0, 1, 1), (1, 1, 0, 0), 2)
+'''
+
+HULLS = '''
+    >>> from makefirst.books import Book
+    >>> from makefirst.hulls import fewest_added, hull_book, hull_rows, suits, suits_paper
+    >>> most, least = ((0, 0), ((0, 0), (0, 1), (1, 0))), ((0, 0), ((0, 1), (1, 0), (1, 1)))
+    >>> both = Book([2], [most, least])
+    >>> make, breaks = ((0, 0, 1), (0, 1, 0)), ((0, 1, 0), (0, 0, 1))
+    >>> suits(both, 0, breaks), suits_paper(both, 0, make), suits(both, 1, make)
+    (True, ((0, 1), (1, 0), (0, 0, 1), (0,)), True)
+    >>> hull_rows(both, (0, 0, 0), [(0, 0, 1), (1, 0, 0)], make), hull_book(both, make).checks[0][1]
+    (((0, 0, 1), (1, 0, 0), (1, 0, 1)), ((0, 0), (0, 1), (1, 0), (1, 1)))
+    >>> fewest_added(both, most=9)
+    (1, ((0, 0, 1), (0, 1, 0)))
 '''
 
 
@@ -81,8 +122,14 @@ class Examples(unittest.TestCase):
     def test_layers_and_rankings(self):
         self.run_all(LAYERS_AND_RANKINGS)
 
-    def test_straight(self):
-        self.run_all(STRAIGHT)
+    def test_straight_ways(self):
+        self.run_all(STRAIGHT_WAYS)
+
+    def test_rounds(self):
+        self.run_all(ROUNDS)
+
+    def test_hulls(self):
+        self.run_all(HULLS)
 
 
 if __name__ == "__main__":

@@ -26,6 +26,8 @@ NODES = (
     ast.GeneratorExp, ast.Yield, ast.YieldFrom, ast.Div, ast.MatMult, ast.Import, ast.JoinedStr, ast.Pow,
 )
 
+LIBRARY = {"math": ["comb", "factorial"]}
+
 # A session at the prompt, and so a doctest, leaves its last answer under this name.
 KNOWN = [name for name in dir(builtins) if name != "_"]
 
@@ -51,12 +53,19 @@ def bound_names(function):
     return names + [node.id for node in ast.walk(function) if isinstance(node, ast.Name) and isinstance(node.ctx, ast.Store)]
 
 
+def all_imports(tree):
+    """(module, name) of all that a file imports."""
+    return [(node.module, alias.name) for node in ast.walk(tree) if isinstance(node, ast.ImportFrom) for alias in node.names]
+
+
 def imports(tree):
     """(file, name) of all that a file imports from the package."""
-    return [
-        (node.module.partition(".")[2], alias.name)
-        for node in ast.walk(tree) if isinstance(node, ast.ImportFrom) for alias in node.names
-    ]
+    return [(module.partition(".")[2], name) for module, name in all_imports(tree) if module.startswith("makefirst.")]
+
+
+def library(tree):
+    """The names that a file imports from Python's library."""
+    return [name for module, name in all_imports(tree) if module in LIBRARY]
 
 
 def defined(tree):
@@ -109,10 +118,21 @@ class Language(unittest.TestCase):
             for file, name in imports(tree):
                 self.assertIn(name, defined(all_trees[file]), (stem, file))
                 self.assertIn(name, used, stem)
+            for module, name in all_imports(tree):
+                self.assertTrue(module.startswith("makefirst.") or name in LIBRARY[module], stem)
             for node in ast.walk(tree):
                 if isinstance(node, ast.ImportFrom):
-                    self.assertTrue(node.level == 0 and node.module.startswith("makefirst."), stem)
+                    self.assertEqual(node.level, 0, stem)
                     self.assertTrue(all(alias.asname is None for alias in node.names), stem)
+
+    def test_names_of_the_library_are_only_called(self):
+        for stem, tree in trees().items():
+            known = library(tree)
+            called = [node.func for node in ast.walk(tree) if isinstance(node, ast.Call) and not node.keywords]
+            for node in ast.walk(tree):
+                if isinstance(node, ast.Name) and node.id in known:
+                    self.assertIn(node, called, (stem, node.lineno))
+            self.assertFalse(set(known) & set(defined(tree)), stem)
 
     def test_builtins_and_methods(self):
         all_trees = trees()
@@ -127,7 +147,7 @@ class Language(unittest.TestCase):
     def test_names(self):
         for stem, tree in trees().items():
             classes = [node.name for node in ast.walk(tree) if isinstance(node, ast.ClassDef)]
-            taken = [name for _, name in imports(tree)] + classes + KNOWN + BARRED
+            taken = [name for _, name in all_imports(tree)] + classes + KNOWN + BARRED
             for function in functions(tree):
                 self.assertFalse(set(bound_names(function)) & set(taken), (stem, function.name))
             names = defined(tree)

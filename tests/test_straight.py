@@ -3,9 +3,10 @@
 import itertools
 import unittest
 
+from makefirst.barring import barring_store
 from makefirst.books import Book
 from makefirst.errors import BadState, Knotted, Refused
-from makefirst.layers import is_ranked, knot_of, knot_papers, layers_of
+from makefirst.layers import is_ranked, knot_of, layers_of
 from makefirst.stores import Store
 from makefirst.straight import first_fault, is_straight, sorted_cells, told_cells
 from support import ALIKE, LEAST, MOST, REFERS, any_values, bent, good_states, is_int, is_seq, laid_everywhere, plain_broken
@@ -31,24 +32,6 @@ def some_batches(store):
     """Some of a store's batches."""
     good = good_states(store)
     return itertools.product(good[:6] + good[-6:], repeat=2)
-
-
-def barred_batch(book):
-    """(store, old, new): many cells of each kind of the knot, and the papers' checks laid on all of them."""
-    papers = knot_papers(book)
-    wide = max(len(places) for places, _ in book.checks)
-    fates = [(kind, at) for kind in knot_of(book) for at in range(2 * wide - 1)]
-    same = set()
-    for _, check, one, other, _ in papers:
-        same |= {(column, one[at], other[at]) for at, column in enumerate(book.checks[check][0]) if one[at] == other[at]}
-    fates += [(fate, at) for fate in sorted(same) for at in range(wide - 1)]
-    cells = [fate[0] for fate, _ in fates]
-    laid = set()
-    for _, check, one, other, _ in papers:
-        wanted = list(zip(book.checks[check][0], one, other))
-        by_place = [[cell for cell, (fate, _) in enumerate(fates) if fate == want] for want in wanted]
-        laid |= {(check, row) for row in itertools.product(*by_place) if len(set(row)) == len(row)}
-    return Store(book, cells, sorted(laid)), tuple(fate[1] for fate, _ in fates), tuple(fate[2] for fate, _ in fates)
 
 
 def has_straight_order(store, old, new):
@@ -213,7 +196,7 @@ class Sorted(unittest.TestCase):
         barred = 0
         for book in [*small_books(), *some_books(30, 19, columns=((2,), (2, 2)), most_places=2)]:
             if not is_ranked(book):
-                store, old, new = barred_batch(book)
+                store, old, new = barring_store(book)
                 if len(knot_of(book)) <= 4:
                     barred += 1
                     self.assertFalse(has_straight_order(store, old, new))

@@ -1,0 +1,78 @@
+"""Searches among lots, and the ways that lead through them by one thing more at a time.
+
+A lot is a sum of bits here, one for each of its things. Steps are a function that tells, of a lot, the longer ones to
+which it leads; where a step adds one bit, they ascend.
+"""
+
+from makefirst.errors import TooGreat
+
+
+def bits_in(lot):
+    """The bits of a lot, ascending."""
+    found = []
+    left = lot
+    while left:
+        bit = left & -left
+        found.append(bit)
+        left -= bit
+    return found
+
+
+def search_lots(steps, most):
+    """By lot to which steps lead from the empty one, by fewest first, a lot ahead of it; TooGreat if there are more."""
+    ahead = {0: 0}
+    waiting = [0]
+    while waiting:
+        further = []
+        for lot in waiting:
+            for longer in steps(lot):
+                if longer not in ahead:
+                    ahead[longer] = lot
+                    further.append(longer)
+            if len(ahead) > most:
+                raise TooGreat(most)
+        waiting = further
+    return ahead
+
+
+def steps_to(ahead, goal):
+    """What each step adds on the way to a lot that the search found."""
+    found = []
+    lot = goal
+    while lot:
+        found.append(lot - ahead[lot])
+        lot = ahead[lot]
+    return found[::-1]
+
+
+def count_ways(ahead, steps, goal):
+    """By lot that the search found in how many ways it can be gone on with to the goal, each step a bit."""
+    ways = {}
+    # Longer lots were found later, so they are counted ahead of those that lead to them.
+    for lot in reversed(list(ahead)):
+        ways[lot] = 1 if lot == goal else sum([ways[longer] for longer in steps(lot)])
+    return ways
+
+
+def nth_way(ways, steps, goal, number):
+    """The bits, one by one, of the way to the goal of a number below all ways, these ascending."""
+    found = []
+    lot = 0
+    left = number
+    while lot != goal:
+        for longer in steps(lot):
+            if left < ways[longer]:
+                break
+            left -= ways[longer]
+        found.append(longer - lot)
+        lot = longer
+    return found
+
+
+def way_place(ways, steps, bits):
+    """The number of the way that goes by these bits, all being ascending."""
+    place = lot = 0
+    for bit in bits:
+        place += sum([ways[longer] for longer in steps(lot) if longer < lot + bit])
+        lot += bit
+    return place
