@@ -174,7 +174,7 @@ def spoilt_changes(book, check, one, other, changes):
     """(kind, places) of the changes that cannot go first on the way between two rows: the least such places."""
     found = []
     for kind, places in changes.items():
-        for lot in lots_of_places(places):
+        for lot in lots_of(places):
             if not book.lets(check, row_between(one, other, lot)):
                 found.append((kind, lot))
                 break
@@ -186,9 +186,9 @@ def row_between(one, other, places):
     return tuple([other[place] if place in places else one[place] for place in range(len(one))])
 
 
-def lots_of_places(places):
-    """All lots of one or more of the places, ascending, as the places are."""
+def lots_of(things):
+    """All lots of one or more of the things, ascending, as the things are."""
     lots = []
-    for place in reversed(places):
-        lots = [(place,)] + [(place,) + lot for lot in lots] + lots
+    for thing in reversed(things):
+        lots = [(thing,)] + [(thing,) + lot for lot in lots] + lots
     return lots

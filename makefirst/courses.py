@@ -3,7 +3,7 @@
 A lot of cells is a sum of bits here, as makefirst.searches has it, one for each cell of the batch, ascending.
 """
 
-from makefirst.books import lots_of_places
+from makefirst.books import lots_of
 from makefirst.plain import are_below, is_sequence
 from makefirst.searches import bits_in, steps_to
 from makefirst.stores import unlike_cells
@@ -35,7 +35,7 @@ def find_faults(rules, store, start, goal, bits):
     for check, looked_at in store.laid:
         own = sorted({cell for cell in looked_at if cell in bits})
         mask = sum([bits[cell] for cell in own])
-        for lot in lots_of_places(own):
+        for lot in lots_of(own):
             row = tuple([goal[cell] if cell in lot else start[cell] for cell in looked_at])
             if not rules.lets(check, row):
                 found[mask, sum([bits[cell] for cell in lot])] = True
@@ -53,6 +53,11 @@ def has_fault(faults, lot):
 def cells_in(course, lot):
     """The cells of a lot, ascending."""
     return tuple([cell for cell, bit in course.bits.items() if lot & bit])
+
+
+def cells_by_bits(course, bits):
+    """The cells of these bits, as they come."""
+    return tuple([course.cells[bit.bit_length() - 1] for bit in bits])
 
 
 def lot_from(course, cells):

@@ -2,7 +2,7 @@
 
 from math import factorial
 
-from makefirst.books import MOST_PLACES, Book, are_rows, kinds_of, lots_of_places, need_check, row_between
+from makefirst.books import MOST_PLACES, Book, are_rows, kinds_of, lots_of, need_check, row_between
 from makefirst.books import unlike_places
 from makefirst.errors import Refused, TooGreat
 from makefirst.plain import are_below
@@ -26,7 +26,7 @@ def steps_between(one, other, changes):
     found = []
     row = one
     for kind, places in changes:
-        found.extend([(kind, lot, row_between(row, other, lot)) for lot in lots_of_places(places)])
+        found.extend([(kind, lot, row_between(row, other, lot)) for lot in lots_of(places)])
         row = row_between(row, other, places)
     return found
 

@@ -23,6 +23,12 @@ def kinds_in(book, lot):
     return tuple([kind for kind, bit in kind_bits(book).items() if lot & bit])
 
 
+def kinds_by_bits(book, bits):
+    """The kinds of these bits, as they come."""
+    kinds = {bit: kind for kind, bit in kind_bits(book).items()}
+    return tuple([kinds[bit] for bit in bits])
+
+
 def told_lot(book, kinds):
     """The lot of the told kinds, of all for None; Refused for any other value that is no sequence of kinds."""
     if kinds is None:

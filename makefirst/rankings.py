@@ -5,7 +5,7 @@ Lots of kinds are sums of their bits here, as kind_bits tells.
 
 from makefirst.books import are_kinds, kind_bits, kinds_of
 from makefirst.errors import Knotted, Refused
-from makefirst.layers import all_bars, first_of, is_within, kinds_in, knot_of
+from makefirst.layers import all_bars, first_of, is_within, kinds_by_bits, kinds_in, knot_of
 from makefirst.plain import is_below
 from makefirst.searches import bits_in, count_ways, nth_way, search_lots, way_place
 
@@ -90,8 +90,7 @@ def nth_ranking(book, number, *, most):
     ways = count_rankings(book, steps, most)
     if not is_below(number, ways[0]):
         raise Refused(number)
-    kinds = {bit: kind for kind, bit in kind_bits(book).items()}
-    return tuple([kinds[bit] for bit in nth_way(ways, steps, sum(kinds), number)])
+    return kinds_by_bits(book, nth_way(ways, steps, sum(kind_bits(book).values()), number))
 
 
 def ranking_place(book, ranking, *, most):

@@ -7,8 +7,10 @@ import pathlib
 import unittest
 
 from makefirst.books import Book
+from makefirst.errors import BadBook, BadState, BadStore, BadText, Knotted, NoCell, NoCheck, NoKind, Refused, TooGreat
+from makefirst.lax import LaxBook
 from makefirst.stores import Store
-from support import MOST, REFERS, any_values, frozen, result_of, strict, thawed
+from support import MOST, REFERS, any_values, frozen, is_seq, result_of, strict, thawed
 
 PACKAGE = pathlib.Path(__file__).parent.parent / "makefirst"
 
@@ -56,12 +58,48 @@ INTERFACE = {
         "suits_paper": "(book, check, ranking)", "suits": "(book, check, ranking)",
         "hull_rows": "(book, places, rows, ranking)", "hull_book": "(book, ranking)", "fewest_added": "(book, *, most)",
     },
+    "deferring": {"deferred_lots": "(book)", "barred_kinds": "(book, *, most)"},
+    "lax": {
+        "LaxBook": "(book, ways)", "is_passable": "(lax, store, state)", "lax_let": "(lax, behind, kind)",
+        "lax_ranking": "(lax, *, most)", "lax_holds": "(lax, value)", "lax_sorted": "(lax, store, old, new, ranking)",
+        "lax_way": "(lax, store, old, new, *, most)", "lax_store": "(lax, *, most)",
+    },
+    "orders": {
+        "orders_many": "(store, old, new, *, most)", "least_order": "(store, old, new, *, most)",
+        "nth_order": "(store, old, new, number, *, most)", "order_place": "(store, old, new, value, *, most)",
+        "sure_ahead": "(store, old, new, *, most)", "order_paper": "(store, old, new, *, most)",
+        "order_holds": "(store, old, new, value)", "least_group": "(store, old, new, *, most)",
+        "pair_ahead": "(store, old, new)", "pair_order": "(store, old, new)",
+    },
+}
+
+# What each function may raise, whatever is passed.
+ENDS = (BadState, Refused)
+TOLD = {
+    "Book": (BadBook,), "need_kind": (NoKind,), "need_check": (NoCheck,), "check_kinds": (Refused,), "unlike_by": (NoCheck, Refused),
+    "Store": (BadStore,), "need_cell": (NoCell,), "check_state": (BadState,), "row_at": (BadState, NoCheck), "broken": (BadState,),
+    "is_good": (BadState,), "check_batch": ENDS, "batch_cells": ENDS, "batch_kind": (*ENDS, NoCell), "read_book": (BadText,),
+    "read_store": (BadText,), "state_text": (BadState,), "read_state": (BadText,), "is_let": (Refused, NoKind),
+    "layers_of": (Refused,), "knot_of": (Refused,), "is_ranked": (Refused,), "knot_papers": (Refused,), "papers_hold": (Refused,),
+    "check_order": (Refused,), "check_ranking": (Refused,), "least_ranking": (Knotted,), "openings_of": (TooGreat,),
+    "rankings_many": (TooGreat,), "nth_ranking": (TooGreat, Refused), "ranking_place": (Refused, TooGreat), "is_straight": ENDS,
+    "first_fault": ENDS, "sorted_cells": (*ENDS, Knotted), "told_cells": (*ENDS, Knotted), "way_holds": ENDS,
+    "straight_way": (*ENDS, TooGreat), "barring_store": (Refused, TooGreat), "plan_holds": ENDS, "round_plan": (*ENDS, Knotted),
+    "fewest_rounds": (*ENDS, TooGreat), "slow_papers": (Knotted, Refused), "slow_store": (Knotted, Refused, TooGreat),
+    "suits_paper": (NoCheck, Refused), "suits": (NoCheck, Refused), "hull_rows": (Refused,), "hull_book": (Refused,),
+    "fewest_added": (TooGreat,), "barred_kinds": (TooGreat,), "LaxBook": (Refused,), "is_passable": (Refused, BadState),
+    "lax_let": (Refused, NoKind), "lax_ranking": (TooGreat,), "lax_sorted": ENDS, "lax_way": (*ENDS, TooGreat),
+    "lax_store": (TooGreat, Refused), "orders_many": (*ENDS, TooGreat), "least_order": (*ENDS, TooGreat),
+    "nth_order": (*ENDS, TooGreat), "order_place": (*ENDS, TooGreat), "sure_ahead": (*ENDS, TooGreat),
+    "order_paper": (*ENDS, TooGreat), "order_holds": ENDS, "least_group": (*ENDS, TooGreat), "pair_ahead": ENDS, "pair_order": ENDS,
 }
 
 BOOK = Book([2, 2], [REFERS])
 ALIKE = Book([2], [((0, 0), [(0, 0), (1, 1)])])
 STORE = Store(BOOK, [1, 0, 0], [(0, (1, 0)), (0, (2, 0))])
 ORDER = [[1, 0, 1], [0, 0, 1], [0, 1, 0], [1, 1, 0]]
+LAX = LaxBook(BOOK, [[(0, 0), (0, 1), (1, 0), (1, 1)]])
+FIRM = LaxBook(ALIKE, [ALIKE.checks[0][1]])
 
 # (file, name, arguments, most), the arguments as lists.
 CALLS = [
@@ -141,6 +179,35 @@ CALLS = [
     ("hulls", "hull_book", [BOOK, ORDER[::-1]], None),
     ("hulls", "fewest_added", [BOOK], 24),
     ("hulls", "fewest_added", [BOOK], 23),
+    ("deferring", "deferred_lots", [ALIKE], None),
+    ("deferring", "barred_kinds", [ALIKE], 4),
+    ("deferring", "barred_kinds", [ALIKE], 3),
+    ("lax", "LaxBook", [BOOK, [[[1, 1], [0, 0], [0, 1], [1, 1]]]], None),
+    ("lax", "LaxBook", [BOOK, [[[1, 1], [0, 0]]]], None),
+    ("lax", "is_passable", [LAX, STORE, [1, 0, 1]], None),
+    ("lax", "lax_let", [LAX, [[0, 0, 1]], [1, 0, 1]], None),
+    ("lax", "lax_let", [LAX, [[0, 0, 0]], [1, 0, 1]], None),
+    ("lax", "lax_ranking", [LAX], 16),
+    ("lax", "lax_ranking", [LAX], 15),
+    ("lax", "lax_holds", [LAX, ORDER], None),
+    ("lax", "lax_sorted", [LAX, STORE, [0, 0, 0], [1, 0, 1], ORDER], None),
+    ("lax", "lax_sorted", [LAX, STORE, [0, 0, 0], [1, 0, 1], ORDER[1:]], None),
+    ("lax", "lax_way", [LAX, STORE, [0, 0, 0], [1, 0, 1]], 4),
+    ("lax", "lax_store", [FIRM], 1),
+    ("lax", "lax_store", [LAX], 16),
+    ("orders", "orders_many", [STORE, [0, 0, 0], [1, 0, 1]], 4),
+    ("orders", "orders_many", [STORE, [0, 0, 0], [1, 0, 1]], 2),
+    ("orders", "least_order", [STORE, [0, 0, 0], [1, 0, 1]], 4),
+    ("orders", "nth_order", [STORE, [0, 0, 0], [1, 0, 1], 0], 4),
+    ("orders", "nth_order", [STORE, [0, 0, 0], [1, 0, 1], 1], 4),
+    ("orders", "order_place", [STORE, [0, 0, 0], [1, 0, 1], [0, 2]], 4),
+    ("orders", "sure_ahead", [STORE, [0, 0, 0], [1, 0, 1]], 4),
+    ("orders", "order_paper", [STORE, [0, 0, 0], [1, 0, 1]], 4),
+    ("orders", "order_holds", [STORE, [0, 0, 0], [1, 0, 1], ["order", [0, 2]]], None),
+    ("orders", "order_holds", [STORE, [0, 0, 0], [1, 0, 1], ["stuck", [[], [0]]]], None),
+    ("orders", "least_group", [STORE, [0, 0, 0], [1, 0, 1]], 4),
+    ("orders", "pair_ahead", [STORE, [0, 0, 0], [1, 0, 1]], None),
+    ("orders", "pair_order", [STORE, [0, 0, 0], [1, 0, 1]], None),
 ]
 
 
@@ -150,6 +217,8 @@ def shown(value):
         return "book", strict(value.columns), strict(value.checks)
     if isinstance(value, Store):
         return "store", shown(value.book), strict(value.cells), strict(value.laid)
+    if isinstance(value, LaxBook):
+        return "lax", shown(value.book), strict(value.ways)
     if isinstance(value, Exception):
         kept = [getattr(value, name) for name in ("at", "most", "kinds", "kind", "cell", "check") if hasattr(value, name)]
         return type(value).__name__, shown(frozen(kept))
@@ -226,16 +295,35 @@ class Basics(unittest.TestCase):
             value.append(None)
             value[0] = None
 
-    def test_a_call_that_raises_changes_nothing(self):
+    def with_any_values(self):
+        """(name, call, arguments, named): all calls, with any value in the place of each argument that is no object."""
         for value in any_values():
             for file, name, args, most in CALLS:
-                call = find(file, name)
-                named = {} if most is None else {"most": most}
-                for at in [at for at in range(1, len(args)) if not isinstance(args[at], (Book, Store))]:
-                    own = args[:at] + [value] + args[at + 1:]
-                    before = shown(own)
-                    result_of(call, *own, **named)
-                    self.assertEqual(shown(own), before)
+                for at in range(len(args)):
+                    if not isinstance(args[at], (Book, Store, LaxBook)):
+                        own = args[:at] + [value] + args[at + 1:]
+                        yield name, find(file, name), own, {} if most is None else {"most": most}
+
+    def test_a_call_that_raises_changes_nothing(self):
+        for _, call, own, named in self.with_any_values():
+            before = shown(own)
+            result_of(call, *own, **named)
+            self.assertEqual(shown(own), before)
+
+    def test_each_error_is_raised_just_where_it_is_told_with_its_argument_kept(self):
+        raised = set()
+        told = [(name, find(file, name), args, {} if most is None else {"most": most}) for file, name, args, most in CALLS]
+        for name, call, own, named in [*told, *self.with_any_values()]:
+            got = result_of(call, *own, **named)
+            if isinstance(got, Exception):
+                raised.add(type(got))
+                self.assertIn(type(got), TOLD.get(name, ()), (name, own))
+                if isinstance(got, (Refused, NoKind, NoCell, NoCheck)):
+                    kept = next(getattr(got, key) for key in ("at", "kind", "cell", "check") if hasattr(got, key))
+                    self.assertTrue(any(kept is part for arg in own for part in (arg, *(arg if is_seq(arg) else ()))), (name, own))
+                if isinstance(got, TooGreat):
+                    self.assertEqual(strict(got.most), strict(named["most"]))
+        self.assertEqual(raised, {BadBook, BadState, BadStore, BadText, Knotted, NoCell, NoCheck, NoKind, Refused, TooGreat})
 
     def test_no_bool_is_taken_for_an_integer(self):
         for call, args in (
@@ -271,6 +359,7 @@ class Interface(unittest.TestCase):
         self.assertEqual((BOOK.columns, len(BOOK.checks)), ((2, 2), 1))
         self.assertEqual((STORE.book, STORE.cells, len(STORE.laid)), (BOOK, (1, 0, 0), 2))
         self.assertEqual(Book([2], [MOST]).checks, (MOST,))
+        self.assertEqual((LAX.book, len(LAX.ways)), (BOOK, 1))
 
 
 if __name__ == "__main__":

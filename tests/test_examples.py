@@ -89,8 +89,9 @@ ROUNDS = '''
     ((0, 0, 0, 0), ((0, (0, 2)), (0, (0, 3)), (0, (1, 2)), (0, (1, 3))), (0, 0, 1, 1), (1, 1, 0, 0), 2)
 '''
 
-HULLS = '''
+HULLS_AND_DEFERRING = '''
     >>> from makefirst.books import Book
+    >>> from makefirst.deferring import barred_kinds, deferred_lots
     >>> from makefirst.hulls import fewest_added, hull_book, hull_rows, suits, suits_paper
     >>> most, least = ((0, 0), ((0, 0), (0, 1), (1, 0))), ((0, 0), ((0, 1), (1, 0), (1, 1)))
     >>> both = Book([2], [most, least])
@@ -99,8 +100,48 @@ HULLS = '''
     (True, ((0, 1), (1, 0), (0, 0, 1), (0,)), True)
     >>> hull_rows(both, (0, 0, 0), [(0, 0, 1), (1, 0, 0)], make), hull_book(both, make).checks[0][1]
     (((0, 0, 1), (1, 0, 0), (1, 0, 1)), ((0, 0), (0, 1), (1, 0), (1, 1)))
-    >>> fewest_added(both, most=9)
-    (1, ((0, 0, 1), (0, 1, 0)))
+    >>> fewest_added(both, most=9), deferred_lots(both), barred_kinds(both, most=9)
+    ((1, ((0, 0, 1), (0, 1, 0))), ((0,), (1,)), ((0, 0, 1),))
+'''
+
+LAX = '''
+    >>> from makefirst.books import Book
+    >>> from makefirst.lax import LaxBook, is_passable, lax_holds, lax_let, lax_ranking, lax_sorted, lax_store, lax_way
+    >>> from makefirst.stores import Store
+    >>> book = Book((2, 2), [((0, 1), [(0, 0), (1, 1)])])
+    >>> lax = LaxBook(book, [[(0, 0), (1, 0), (1, 1)]])
+    >>> lax_ranking(lax, most=99), lax_ranking(LaxBook(book, [[(0, 0), (1, 1)]]), most=99)
+    (((0, 0, 1), (1, 0, 1), (1, 1, 0), (0, 1, 0)), None)
+    >>> lax_let(lax, [], (0, 0, 1)), lax_let(lax, [], (0, 1, 0)), lax_let(lax, [(1, 1, 0)], (0, 1, 0)), lax_holds(lax, [])
+    (True, False, True, False)
+    >>> store = Store(book, (0, 1, 1), [(0, (0, 1)), (0, (0, 2))])
+    >>> lax_sorted(lax, store, (0, 0, 0), (1, 1, 1), lax_ranking(lax, most=99)), is_passable(lax, store, (1, 0, 1))
+    ((0, 1, 2), True)
+    >>> lax_way(lax, store, (1, 1, 1), (0, 0, 0), most=99) in ((1, 2, 0), (2, 1, 0))
+    True
+    >>> lax_way(LaxBook(book, [book.checks[0][1]]), store, (0,) * 3, (1,) * 3, most=9)
+    >>> some, old, new = lax_store(LaxBook(book, [[(0, 0), (1, 1)]]), most=99)
+    >>> len(some.cells), len(some.laid)
+    (8, 8)
+'''
+
+ORDERS = '''
+    >>> from makefirst.books import Book
+    >>> from makefirst.orders import least_group, least_order, nth_order, order_holds, order_paper, order_place, orders_many
+    >>> from makefirst.orders import pair_ahead, pair_order, sure_ahead
+    >>> from makefirst.stores import Store
+    >>> parents = Book((2, 2), [((0, 1), [(0, 0), (1, 0), (1, 1)])])
+    >>> store = Store(parents, (1, 0, 1), [(0, (1, 0)), (0, (1, 2))])
+    >>> old, new = (0, 0, 0), (1, 1, 1)
+    >>> orders_many(store, old, new, most=9), least_order(store, old, new, most=9), nth_order(store, old, new, 1, most=9)
+    (2, (1, 0, 2), (1, 2, 0))
+    >>> sure_ahead(store, old, new, most=9), pair_ahead(store, old, new), order_place(store, old, new, [1, 2, 0], most=9)
+    (((1, 0), (1, 2)), ((1, 0), (1, 2)), 1)
+    >>> alike = Store(Book((2,), [((0, 0), [(0, 0), (1, 1)])]), (0, 0, 0), [(0, (0, 1)), (0, (1, 2))])
+    >>> order_paper(alike, old, new, most=9), pair_order(alike, old, new)[0], least_group(alike, old, new, most=9)
+    (('stuck', ((),)), 'ring', (3, ((0, 1, 2),)))
+    >>> order_holds(alike, old, new, ("stuck", [()])), order_holds(store, old, new, ("order", [0, 1, 2]))
+    (True, False)
 '''
 
 
@@ -128,8 +169,14 @@ class Examples(unittest.TestCase):
     def test_rounds(self):
         self.run_all(ROUNDS)
 
-    def test_hulls(self):
-        self.run_all(HULLS)
+    def test_hulls_and_deferring(self):
+        self.run_all(HULLS_AND_DEFERRING)
+
+    def test_lax(self):
+        self.run_all(LAX)
+
+    def test_orders(self):
+        self.run_all(ORDERS)
 
 
 if __name__ == "__main__":

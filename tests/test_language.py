@@ -26,7 +26,7 @@ NODES = (
     ast.GeneratorExp, ast.Yield, ast.YieldFrom, ast.Div, ast.MatMult, ast.Import, ast.JoinedStr, ast.Pow,
 )
 
-LIBRARY = {"math": ["comb", "factorial"]}
+LIBRARY = {"math": ["comb", "factorial"], "itertools": ["combinations"]}
 
 # A session at the prompt, and so a doctest, leaves its last answer under this name.
 KNOWN = [name for name in dir(builtins) if name != "_"]
