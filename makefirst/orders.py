@@ -67,8 +67,8 @@ def sure_ahead(store, old, new, *, most):
         return None
     # What is in all lots that have a cell, and lie on a straight order, is set ahead of this cell.
     shared = {bit: course.whole for bit in course.bits.values()}
-    for lot in [lot for lot in ways if ways[lot]]:
-        for bit in bits_in(lot):
+    for lot, many in ways.items():
+        for bit in bits_in(lot if many else 0):
             shared[bit] = shared[bit] & lot
     pairs = [(one, other) for other, bit in course.bits.items() for one in cells_in(course, shared[bit] - bit)]
     return tuple(sorted(pairs))

@@ -137,7 +137,8 @@ class Ways(unittest.TestCase):
         laid = [(0, (at % 100, 100 + at // 40)) for at in range(4000)]
         store = Store(Book([2], [MOST]), [0] * 200, laid)
         old, new = (1,) * 96 + (0,) * 104, (0,) * 100 + (1,) * 100
-        value = [tuple(range(at, at + 8)) for at in range(0, 96, 8)] + [tuple(range(at, min(at + 8, 200))) for at in range(100, 200, 8)]
+        value = [tuple(range(at, at + 8)) for at in range(0, 96, 8)]
+        value += [tuple(range(at, min(at + 8, 200))) for at in range(100, 200, 8)]
         self.assertIs(way_holds(store, old, new, value, 8), True)
         self.assertIs(way_holds(store, old, new, value[::-1], 8), False)
         self.assertIs(way_holds(store, old, new, value, 7), False)

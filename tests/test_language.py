@@ -68,6 +68,11 @@ def library(tree):
     return [name for module, name in all_imports(tree) if module in LIBRARY]
 
 
+def named(node):
+    """The name that a node is; None for another one."""
+    return node.id if isinstance(node, ast.Name) else None
+
+
 def defined(tree):
     """The names that a file binds itself at module level."""
     names = [node.name for node in tree.body if isinstance(node, (ast.FunctionDef, ast.ClassDef))]
@@ -153,6 +158,22 @@ class Language(unittest.TestCase):
             names = defined(tree)
             self.assertEqual(len(set(names)), len(names), stem)
             self.assertFalse(set(names) & set(KNOWN), stem)
+
+    def test_sets_stand_only_where_they_may(self):
+        for stem, tree in trees().items():
+            inside = {child: node for node in ast.walk(tree) for child in ast.iter_child_nodes(node)}
+            for node in ast.walk(tree):
+                if isinstance(node, (ast.Set, ast.SetComp)) or isinstance(node, ast.Call) and named(node.func) == "set":
+                    around = inside[node]
+                    self.assertIsInstance(around, (ast.Call, ast.Compare), (stem, node.lineno))
+                    if isinstance(around, ast.Call):
+                        self.assertIn(named(around.func), ("sorted", "len"), (stem, node.lineno))
+                        self.assertEqual(around.keywords, [], (stem, node.lineno))
+
+    def test_lambdas_stand_on_lines_of_their_own(self):
+        for stem, tree in trees().items():
+            lines = [node.lineno for node in ast.walk(tree) if isinstance(node, ast.Lambda)]
+            self.assertEqual(len(set(lines)), len(lines), stem)
 
     def test_strings(self):
         for stem, tree in trees().items():

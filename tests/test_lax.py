@@ -237,11 +237,11 @@ class Let(unittest.TestCase):
 
     def test_more_ahead_may_let_or_bar(self):
         self.assertIs(lax_let(LAX, [], (1, 1, 0)), True)
-        barred = [lax for lax in books_to_try(313) for kind in plain_kinds(lax.book) for other in plain_kinds(lax.book)
-                  if lax_let(lax, [], kind) and not lax_let(lax, [other], kind)]
-        freed = [lax for lax in books_to_try(313) for kind in plain_kinds(lax.book) for other in plain_kinds(lax.book)
-                 if not lax_let(lax, [], kind) and lax_let(lax, [other], kind)]
-        self.assertTrue(barred and freed)
+        told = set()
+        for lax in books_to_try(313):
+            for kind, other in itertools.product(plain_kinds(lax.book), repeat=2):
+                told.add((lax_let(lax, [], kind), lax_let(lax, [other], kind)))
+        self.assertLessEqual({(True, False), (False, True)}, told)
 
     def test_errors_in_their_order(self):
         for value in [*any_values(), *bent([(0, 0, 1), (1, 1, 0)]), [(2, 0, 1)]]:
@@ -286,7 +286,8 @@ class Rankings(unittest.TestCase):
                 self.assertIs(type(got), TooGreat)
                 self.assertEqual(strict(got.most), strict(len(found) - 1))
             known = set(orders)
-            for order in itertools.islice(itertools.permutations(plain_kinds(lax.book)), 0, None, 7 if len(plain_kinds(lax.book)) > 4 else 1):
+            by = 7 if len(plain_kinds(lax.book)) > 4 else 1
+            for order in itertools.islice(itertools.permutations(plain_kinds(lax.book)), 0, None, by):
                 self.assertIs(lax_holds(lax, order), order in known)
             for order in orders[:50]:
                 self.assertIs(lax_holds(lax, list(order)), True)
@@ -312,8 +313,9 @@ class Rankings(unittest.TestCase):
     def test_any_values(self):
         for lax in (LAX, FIRM, LaxBook(Book([2], [MOST]), [MOST[1]]), LaxBook(Book([1]), [])):
             orders = plain_reached_kinds(lax)[1]
+            known = [strict(order) for order in orders]
             for value in [*any_values(), *bent(orders[0] if orders else plain_kinds(lax.book)), plain_kinds(lax.book) * 2]:
-                self.assertIs(lax_holds(lax, value), frozen(value) in orders and strict(frozen(value)) in [strict(own) for own in orders])
+                self.assertIs(lax_holds(lax, value), strict(frozen(value)) in known)
 
     def test_no_kinds(self):
         for book in (Book([1]), Book([1, 1], [((0, 1), [(0, 0)])])):
@@ -341,7 +343,8 @@ class Rankings(unittest.TestCase):
         firm = LaxBook(great, own_ways(great))
         self.assertIs(lax_holds(firm, plain_kinds(great)), False)
         self.assertIs(lax_let(firm, [(3, 0, 1)], (3, 1, 0)), True)
-        self.assertIs(lax_let(firm, [(0, 0, 1)], (0, 1, 0)), plain_lax_let(LaxBook(Book([4] * 4, great.checks[:1]), own_ways(great)[:1]), [(0, 0, 1)], (0, 1, 0)))
+        one = LaxBook(Book([4] * 4, great.checks[:1]), own_ways(great)[:1])
+        self.assertIs(lax_let(firm, [(0, 0, 1)], (0, 1, 0)), plain_lax_let(one, [(0, 0, 1)], (0, 1, 0)))
 
 
 class Batches(unittest.TestCase):
@@ -397,7 +400,10 @@ class Batches(unittest.TestCase):
     def test_errors_in_their_order(self):
         other = Store(Book((2, 2)), (0, 1, 1))
         ranking = lax_ranking(LAX, most=99)
-        for call in (lambda store, old, new: lax_sorted(LAX, store, old, new, None), lambda store, old, new: lax_way(LAX, store, old, new, most=1)):
+        for call in (
+            lambda store, old, new: lax_sorted(LAX, store, old, new, None),
+            lambda store, old, new: lax_way(LAX, store, old, new, most=1),
+        ):
             for old, new in ((None, None), (OLD, NEW), ((0, 1, 0), NEW)):
                 got = result_of(call, other, old, new)
                 self.assertIs(type(got), Refused)
@@ -416,8 +422,8 @@ class Batches(unittest.TestCase):
 
     def test_limits(self):
         book = Book([2], [((0, 0, 0), [(0, 0, 0), (1, 1, 1)]), LEAST])
-        ways = [[row for row in itertools.product((0, 1), repeat=3) if row not in ((1, 0, 1), (0, 1, 0))], list(itertools.product((0, 1), repeat=2))]
-        lax = LaxBook(book, ways)
+        some = [row for row in itertools.product((0, 1), repeat=3) if row not in ((1, 0, 1), (0, 1, 0))]
+        lax = LaxBook(book, [some, list(itertools.product((0, 1), repeat=2))])
         choice = random.Random(323)
         store = Store(book, [0] * 12, [(0, tuple(sorted(choice.sample(range(12), 3)))) for _ in range(100)])
         got = lax_way(lax, store, (0,) * 12, (1,) * 12, most=4096)

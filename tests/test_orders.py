@@ -171,13 +171,19 @@ class Orders(unittest.TestCase):
         calls = [lambda old, new, call=call, args=args: call(STORE, old, new, *args, most=1) for call, args in SEARCHES]
         calls += [lambda old, new, value=value: nth_order(STORE, old, new, value, most=9) for value in (None, 7)]
         calls += [lambda old, new: order_holds(STORE, old, new, None), lambda old, new: order_place(STORE, old, new, None, most=9)]
-        three = Store(Book([2, 2], [((1, 0, 1), [row for row in itertools.product((0, 1), repeat=3) if row != (1, 1, 0)])]), (1, 0, 1), [(0, (0, 1, 2))])
-        calls += [lambda old, new, call=call: call(three, old, new) for call in (pair_ahead, pair_order)]
+        self.ends_first(calls, STORE, (0, 0, 1))
+        rows = [row for row in itertools.product((0, 1), repeat=3) if row != (1, 1, 0)]
+        three = Store(Book([2, 2], [((1, 0, 1), rows)]), (1, 0, 1), [(0, (0, 1, 2))])
+        calls = [lambda old, new, call=call: call(three, old, new) for call in (pair_ahead, pair_order)]
+        self.ends_first(calls, three, (1, 1, 0))
+
+    def ends_first(self, calls, store, bad):
+        """Holds that calls of an old and a new state raise what is told of these first."""
         for call in calls:
-            for old, new, error, at in bad_ends(STORE, OLD, (1, 1, 0) if call in calls[-2:] else (0, 0, 1)):
+            for old, new, error, at in bad_ends(store, OLD, bad):
                 got = result_of(call, old, new)
                 self.assertIs(type(got), error)
-                self.assertEqual(strict(got.at), strict(at if error is not Refused else list((1, 1, 0) if call in calls[-2:] else (0, 0, 1))))
+                self.assertEqual(strict(got.at), strict(at if error is not Refused else list(bad)))
 
     def test_most_only_by_name(self):
         for call, args in SEARCHES:
@@ -244,7 +250,9 @@ class Papers(unittest.TestCase):
         self.assertEqual(opened, ((),))
         for paper in ([(), ()], [(0,), ()], [(), (0,), (2,), (1,), (0,)], ((1,), (), [0])):
             self.assertIs(order_holds(RING, OLD, NEW, ("stuck", paper)), True)
-        for paper in ([(1, 0), ()], [(), (0, 0)], [(), (3,)], [(), (-1,)], [(), (True,)], [(), 0], [[0]], [], (), [(), (0, 1, 2)], None, "()", [None]):
+        for paper in (
+            [(1, 0), ()], [(), (0, 0)], [(), (3,)], [(), (-1,)], [(), (True,)], [(), 0], [[0]], [], (), [(), (0, 1, 2)], None, "()", [None],
+        ):
             self.assertIs(order_holds(RING, OLD, NEW, ("stuck", paper)), False)
         idle = Store(RING.book, [0] * 4, RING.laid)
         self.assertIs(order_holds(idle, (0, 0, 0, 1), (1, 1, 1, 1), ("stuck", [(), (0,)])), True)
@@ -254,7 +262,8 @@ class Papers(unittest.TestCase):
         for store in (STORE, STUCK, RING):
             papers = [("order", (1, 0, 2)), ["order", [1, 2, 0]], ("stuck", ((),)), ["stuck", [[], [0], (0, 1)]]]
             values = [*any_values(), *[other for paper in papers for other in bent(paper)]]
-            values += [("orders", (1, 0, 2)), ("order",), ("order", (1, 0, 2), ()), ("stuck", ((),), ()), (True, ((),)), (("stuck",), ((),))]
+            values += [("orders", (1, 0, 2)), ("order",), ("order", (1, 0, 2), ()), ("stuck", ((),), ())]
+            values += [(True, ((),)), (("stuck",), ((),))]
             for value in values:
                 self.assertIs(order_holds(store, OLD, NEW, value), plain_order_holds(store, OLD, NEW, value))
 
