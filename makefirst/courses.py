@@ -20,7 +20,7 @@ class Course:
         self.cells = unlike_cells(start, goal)
         self.bits = {cell: 1 << at for at, cell in enumerate(self.cells)}
         self.whole = sum(self.bits.values())
-        self.faults = find_faults(rules, store, start, goal, self.bits)
+        self.faults = tuple(find_faults(rules, store, start, goal, self.bits))
         self.by_part = [[] for _ in self.cells]
         self.by_top = [[] for _ in self.cells]
         for mask, part in self.faults:
@@ -30,16 +30,15 @@ class Course:
 
 
 def find_faults(rules, store, start, goal, bits):
-    """The faults of all laid checks, each once."""
+    """By fault the least number of a laid check that it breaks; cells of one bit are set together."""
     found = {}
-    for check, looked_at in store.laid:
-        own = sorted({cell for cell in looked_at if cell in bits})
-        mask = sum([bits[cell] for cell in own])
+    for number, (check, looked_at) in enumerate(store.laid):
+        own = sorted({bits[cell] for cell in looked_at if cell in bits})
         for lot in lots_of(own):
-            row = tuple([goal[cell] if cell in lot else start[cell] for cell in looked_at])
+            row = tuple([goal[cell] if bits.get(cell) in lot else start[cell] for cell in looked_at])
             if not rules.lets(check, row):
-                found[mask, sum([bits[cell] for cell in lot])] = True
-    return tuple(found)
+                found.setdefault((sum(own), sum(lot)), number)
+    return found
 
 
 def has_fault(faults, lot):

@@ -2,10 +2,10 @@
 
 from makefirst.courses import Course, deals_out, lot_from
 from makefirst.errors import TooGreat
-from makefirst.layers import is_within, sure_layers
+from makefirst.layers import is_within
 from makefirst.searches import bits_in, search_lots, steps_to
-from makefirst.stores import cell_kind, check_batch, unlike_cells
-from makefirst.straight import by_layers
+from makefirst.stores import check_batch
+from makefirst.straight import own_layers
 
 
 def parts_ahead(course, lot):
@@ -39,8 +39,7 @@ def has_any_within(parts, lot):
 def round_plan(store, old, new):
     """The plan by layers of the batch's own kinds; Knotted, with their knot, if they have one."""
     start, goal = check_batch(store, old, new)
-    kinds = [cell_kind(store, start, goal, cell) for cell in unlike_cells(start, goal)]
-    return tuple([by_layers(store, start, goal, [layer]) for layer in sure_layers(store.book, kinds)])
+    return own_layers(store, start, goal)
 
 
 def behind_rounds(course, lot):

@@ -1,4 +1,4 @@
-"""Searches among lots, and the ways that lead through them by one thing more at a time.
+"""Searches by steps, most of them among lots, and the ways that lead through these by one thing more at a time.
 
 A lot is a sum of bits here, one for each of its things. Steps are a function that tells, of a lot, the longer ones to
 which it leads; where a step adds one bit, they ascend.
@@ -18,21 +18,37 @@ def bits_in(lot):
     return found
 
 
-def search_lots(steps, most):
-    """By lot to which steps lead from the empty one, by fewest first, a lot ahead of it; TooGreat if there are more."""
-    ahead = {0: 0}
-    waiting = [0]
+def search_from(start, steps, most):
+    """By place to which steps lead from the start, by fewest first, a place ahead of it; TooGreat if there are more.
+
+    If of two ways by fewest steps to a place the one takes the earlier step where they part, it is that one.
+    """
+    ahead = {start: start}
+    waiting = [start]
     while waiting:
         further = []
-        for lot in waiting:
-            for longer in steps(lot):
-                if longer not in ahead:
-                    ahead[longer] = lot
-                    further.append(longer)
+        for place in waiting:
+            for behind in steps(place):
+                if behind not in ahead:
+                    ahead[behind] = place
+                    further.append(behind)
             if len(ahead) > most:
                 raise TooGreat(most)
         waiting = further
     return ahead
+
+
+def search_lots(steps, most):
+    """By lot to which steps lead from the empty one, by fewest first, a lot ahead of it; TooGreat if there are more."""
+    return search_from(0, steps, most)
+
+
+def way_to(ahead, goal):
+    """The places on the way to a place that the search found, from the start on."""
+    way = [goal]
+    while ahead[way[-1]] != way[-1]:
+        way.append(ahead[way[-1]])
+    return way[::-1]
 
 
 def steps_to(ahead, goal):

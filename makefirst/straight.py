@@ -71,8 +71,13 @@ def sorted_cells(store, old, new):
     return by_layers(store, start, goal, sure_layers(store.book))
 
 
+def own_layers(store, start, goal):
+    """The cells in which two states are unlike, by the layers of their own kinds; Knotted if these have a knot."""
+    kinds = [cell_kind(store, start, goal, cell) for cell in unlike_cells(start, goal)]
+    return tuple([by_layers(store, start, goal, [layer]) for layer in sure_layers(store.book, kinds)])
+
+
 def told_cells(store, old, new):
     """The batch's cells by the layers of their own kinds alone; Knotted if these have a knot."""
     start, goal = check_batch(store, old, new)
-    kinds = [cell_kind(store, start, goal, cell) for cell in unlike_cells(start, goal)]
-    return by_layers(store, start, goal, sure_layers(store.book, kinds))
+    return tuple([cell for layer in own_layers(store, start, goal) for cell in layer])

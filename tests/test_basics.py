@@ -6,8 +6,10 @@ import inspect
 import pathlib
 import unittest
 
+from detour_support import LOCK
 from makefirst.books import Book
 from makefirst.errors import BadBook, BadState, BadStore, BadText, Knotted, NoCell, NoCheck, NoKind, Refused, TooGreat
+from makefirst.hands import Crew
 from makefirst.lax import LaxBook
 from makefirst.stores import Store
 from support import MOST, REFERS, any_values, frozen, is_seq, result_of, strict, thawed
@@ -71,6 +73,27 @@ INTERFACE = {
         "order_holds": "(store, old, new, value)", "least_group": "(store, old, new, *, most)",
         "pair_ahead": "(store, old, new)", "pair_order": "(store, old, new)",
     },
+    "hands": {
+        "check_changes": "(store, state, value)", "change_layers": "(store, state, changes)",
+        "clash_paper": "(store, state, batches)", "go_together": "(store, state, batches)",
+        "clash_holds": "(store, state, batches, value)", "is_moment": "(store, state, batches, value)", "Crew": "(store, state)",
+    },
+    "detours": {
+        "fates_of": "(book)", "check_shown": "(book, value)", "is_let_step": "(book, shown, fate, value)",
+        "detour_of": "(book, *, most)", "detour_holds": "(book, value)", "stuck_lot": "(book, *, most)",
+        "stuck_holds": "(book, value)", "detour_settings": "(store, old, new, value)",
+    },
+    "wayless": {"wayless_store": "(book, size=1, *, most)"},
+    "parking": {
+        "parked_way": "(book, columns, *, most)", "parked_holds": "(book, columns, value)", "parked_lots": "(book, *, most)",
+    },
+}
+
+METHODS = {
+    ("hands", "Crew"): {
+        "left_of": "(self, number)", "clash_of": "(self, changes)", "begin": "(self, changes)", "next_cells": "(self, number)",
+        "move": "(self, number, cell)", "leave": "(self, number)",
+    },
 }
 
 # What each function may raise, whatever is passed.
@@ -92,6 +115,10 @@ TOLD = {
     "lax_store": (TooGreat, Refused), "orders_many": (*ENDS, TooGreat), "least_order": (*ENDS, TooGreat),
     "nth_order": (*ENDS, TooGreat), "order_place": (*ENDS, TooGreat), "sure_ahead": (*ENDS, TooGreat),
     "order_paper": (*ENDS, TooGreat), "order_holds": ENDS, "least_group": (*ENDS, TooGreat), "pair_ahead": ENDS, "pair_order": ENDS,
+    "check_changes": ENDS, "change_layers": (*ENDS, Knotted), "clash_paper": ENDS, "go_together": ENDS, "clash_holds": ENDS,
+    "is_moment": (*ENDS, Knotted), "Crew": ENDS, "check_shown": (Refused,), "is_let_step": (Refused,), "detour_of": (TooGreat,),
+    "stuck_lot": (TooGreat,), "detour_settings": ENDS, "wayless_store": (Refused, TooGreat), "parked_way": (Refused, TooGreat),
+    "parked_holds": (Refused,), "parked_lots": (TooGreat,),
 }
 
 BOOK = Book([2, 2], [REFERS])
@@ -100,6 +127,8 @@ STORE = Store(BOOK, [1, 0, 0], [(0, (1, 0)), (0, (2, 0))])
 ORDER = [[1, 0, 1], [0, 0, 1], [0, 1, 0], [1, 1, 0]]
 LAX = LaxBook(BOOK, [[(0, 0), (0, 1), (1, 0), (1, 1)]])
 FIRM = LaxBook(ALIKE, [ALIKE.checks[0][1]])
+PAIR = Store(ALIKE, [0, 0], [(0, (0, 1))])
+WAY = [[[1, 0, 0], 1], [[1, 0, 1], 1], [[0, 0, 1], 1], [[0, 1, 0], 0], [[1, 0, 0], 0], [[1, 1, 0], 0]]
 
 # (file, name, arguments, most), the arguments as lists.
 CALLS = [
@@ -208,6 +237,38 @@ CALLS = [
     ("orders", "least_group", [STORE, [0, 0, 0], [1, 0, 1]], 4),
     ("orders", "pair_ahead", [STORE, [0, 0, 0], [1, 0, 1]], None),
     ("orders", "pair_order", [STORE, [0, 0, 0], [1, 0, 1]], None),
+    ("hands", "check_changes", [STORE, [0, 0, 0], [[2, 1], [0, 1]]], None),
+    ("hands", "check_changes", [STORE, [0, 0, 0], [[2, 0]]], None),
+    ("hands", "change_layers", [STORE, [0, 0, 0], [[2, 1], [0, 1]]], None),
+    ("hands", "change_layers", [PAIR, [0, 0], [[0, 1]]], None),
+    ("hands", "clash_paper", [STORE, [0, 0, 0], [[[2, 1]], [[1, 1], [0, 1]]]], None),
+    ("hands", "clash_paper", [STORE, [0, 0, 0], [[[0, 1]], [[0, 1]]]], None),
+    ("hands", "go_together", [STORE, [1, 0, 0], [[[2, 1]], [[1, 1]]]], None),
+    ("hands", "clash_holds", [STORE, [0, 0, 0], [[[2, 1]], [[1, 1], [0, 1]]], [[0], 1]], None),
+    ("hands", "is_moment", [STORE, [1, 0, 0], [[[2, 1]], [[1, 1]]], [1, 1, 0]], None),
+    ("hands", "is_moment", [PAIR, [0, 0], [[[0, 1]]], [1, 0]], None),
+    ("hands", "Crew", [STORE, [1, 0, 1]], None),
+    ("hands", "Crew", [STORE, [0, 0, 1]], None),
+    ("detours", "fates_of", [LOCK], None),
+    ("detours", "check_shown", [ALIKE, [0, 1, 1, 0]], None),
+    ("detours", "check_shown", [ALIKE, [0, 1, 1]], None),
+    ("detours", "is_let_step", [LOCK, [0, 0, 1, 1, 0, 0, 1, 1], [1, 0, 0], 1], None),
+    ("detours", "is_let_step", [LOCK, [0, 0, 1, 1, 0, 0, 1, 1], [1, 0, 0], 0], None),
+    ("detours", "detour_of", [LOCK], 300),
+    ("detours", "detour_of", [LOCK], 3),
+    ("detours", "detour_holds", [LOCK, WAY], None),
+    ("detours", "stuck_lot", [ALIKE], 1),
+    ("detours", "stuck_holds", [ALIKE, [[0, 0, 1, 1]]], None),
+    ("detours", "detour_settings", [Store(LOCK, [0, 0, 1], [[0, [0, 1, 2]]]), [0, 1, 0], [1, 0, 0], WAY], None),
+    ("detours", "detour_settings", [Store(LOCK, [0, 0, 1], [[0, [0, 1, 2]]]), [0, 1, 0], [1, 0, 0], WAY[1:]], None),
+    ("wayless", "wayless_store", [ALIKE, 2], 1),
+    ("wayless", "wayless_store", [LOCK, 2], 300),
+    ("wayless", "wayless_store", [LOCK], 2),
+    ("parking", "parked_way", [LOCK, [1]], 300),
+    ("parking", "parked_way", [LOCK, [1, 0]], 300),
+    ("parking", "parked_holds", [LOCK, [1], WAY], None),
+    ("parking", "parked_lots", [LOCK], 300),
+    ("parking", "parked_lots", [LOCK], 3),
 ]
 
 
@@ -219,6 +280,8 @@ def shown(value):
         return "store", shown(value.book), strict(value.cells), strict(value.laid)
     if isinstance(value, LaxBook):
         return "lax", shown(value.book), strict(value.ways)
+    if isinstance(value, Crew):
+        return "crew", shown(value.store), strict(value.state)
     if isinstance(value, Exception):
         kept = [getattr(value, name) for name in ("at", "most", "kinds", "kind", "cell", "check") if hasattr(value, name)]
         return type(value).__name__, shown(frozen(kept))
@@ -343,6 +406,12 @@ class Interface(unittest.TestCase):
                 if signature is not None:
                     self.assertEqual(str(inspect.signature(find(file, name))), signature, name)
 
+    def test_methods_stand_in_their_classes(self):
+        for (file, name), methods in METHODS.items():
+            own = vars(find(file, name))
+            for method, signature in methods.items():
+                self.assertEqual(str(inspect.signature(own[method])), signature, (name, method))
+
     def test_defined_in_their_files(self):
         for file, names in INTERFACE.items():
             tree = ast.parse((PACKAGE / (file + ".py")).read_text())
@@ -360,6 +429,8 @@ class Interface(unittest.TestCase):
         self.assertEqual((STORE.book, STORE.cells, len(STORE.laid)), (BOOK, (1, 0, 0), 2))
         self.assertEqual(Book([2], [MOST]).checks, (MOST,))
         self.assertEqual((LAX.book, len(LAX.ways)), (BOOK, 1))
+        crew = Crew(STORE, [1, 0, 1])
+        self.assertEqual((crew.store, crew.state), (STORE, (1, 0, 1)))
 
 
 if __name__ == "__main__":

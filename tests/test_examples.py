@@ -144,6 +144,45 @@ ORDERS = '''
     (True, False)
 '''
 
+HANDS = '''
+    >>> from makefirst.books import Book
+    >>> from makefirst.hands import Crew, change_layers, clash_paper, go_together, is_moment
+    >>> from makefirst.layers import is_ranked
+    >>> from makefirst.stores import Store
+    >>> book = Book([2], [((0, 0), [(0, 0), (0, 1), (1, 0)]), ((0, 0), [(0, 1), (1, 0), (1, 1)])])
+    >>> store = Store(book, [0] * 5, [(0, (0, 1)), (0, (2, 3)), (1, (0, 4))])
+    >>> state = (1, 0, 1, 0, 0)
+    >>> is_ranked(book), change_layers(store, state, [(2, 0)]), is_moment(store, state, [[(2, 0)], [(4, 1)]], [1, 0, 0, 0, 0])
+    (False, ((2,),), True)
+    >>> go_together(store, state, [[(2, 0)], [(4, 1)]]), clash_paper(store, state, [[(4, 1)], [(0, 0)]])
+    (True, ((1,), 2))
+    >>> crew = Crew(store, state)
+    >>> crew.begin([(4, 1)]), crew.clash_of([(0, 0)]), crew.move(0, 4), crew.clash_of([(0, 0)]), crew.begin([(0, 0)]), crew.next_cells(1)
+    (0, (), 1, None, 1, (0,))
+'''
+
+DETOURS = '''
+    >>> from makefirst.books import Book
+    >>> from makefirst.detours import detour_holds, detour_of, detour_settings, fates_of, is_let_step, stuck_holds, stuck_lot
+    >>> from makefirst.parking import parked_holds, parked_lots
+    >>> from makefirst.stores import Store
+    >>> from makefirst.wayless import wayless_store
+    >>> other = Book([2], [((0, 0), ((0, 1), (1, 0)))])
+    >>> fates_of(other), is_let_step(other, (0, 0, 1, 1), (0, 0, 1), 1), stuck_lot(other, most=9), stuck_holds(other, [])
+    (((0, 0, 0), (0, 0, 1), (0, 1, 0), (0, 1, 1)), False, ((0, 0, 1, 1),), False)
+    >>> store, old, new = wayless_store(other, most=9)
+    >>> len(store.cells), len(store.laid), old == (0,) * 8 + (1,) * 8
+    (16, 64, True)
+    >>> lock = Book([2, 2], [((0, 0, 1), ((0, 0, 1), (0, 1, 0), (0, 1, 1), (1, 0, 0), (1, 0, 1), (1, 1, 1)))])
+    >>> way = detour_of(lock, most=300)
+    >>> way == (((1, 0, 0), 1), ((1, 0, 1), 1), ((0, 0, 1), 1), ((0, 1, 0), 0), ((1, 0, 0), 0), ((1, 1, 0), 0))
+    True
+    >>> detour_settings(Store(lock, (0, 0, 1), [(0, (0, 1, 2))]), (0, 1, 0), (1, 0, 0), way)
+    ((2, 1), (0, 1), (1, 0), (2, 0))
+    >>> parked_lots(lock, most=300), parked_holds(lock, [1], way), parked_holds(lock, [0], way), detour_holds(lock, way[1:])
+    (((1,),), True, False, False)
+'''
+
 
 class Examples(unittest.TestCase):
 
@@ -177,6 +216,12 @@ class Examples(unittest.TestCase):
 
     def test_orders(self):
         self.run_all(ORDERS)
+
+    def test_hands(self):
+        self.run_all(HANDS)
+
+    def test_detours(self):
+        self.run_all(DETOURS)
 
 
 if __name__ == "__main__":
