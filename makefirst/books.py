@@ -52,9 +52,12 @@ def is_check(columns, value):
     if not is_sequence(value) or len(value) != 2:
         return False
     places, rows = value
-    if not are_below(places, len(columns)) or not 1 <= len(places) <= MOST_PLACES:
-        return False
-    return are_rows([columns[column] for column in places], rows)
+    return are_places(columns, places) and are_rows([columns[column] for column in places], rows)
+
+
+def are_places(columns, value):
+    """Whether any value is a sequence of columns such as a check looks at."""
+    return are_below(value, len(columns)) and 1 <= len(value) <= MOST_PLACES
 
 
 def are_rows(sizes, value):

@@ -2,10 +2,8 @@
 
 from math import factorial
 
-from makefirst.books import MOST_PLACES, Book, are_rows, kinds_of, lots_of, need_check, row_between
-from makefirst.books import unlike_places
+from makefirst.books import Book, are_places, are_rows, kinds_of, lots_of, need_check, row_between, unlike_places
 from makefirst.errors import Refused, TooGreat
-from makefirst.plain import are_below
 from makefirst.rankings import check_order
 
 
@@ -79,7 +77,7 @@ def rows_between(one, other, changes, known):
 
 def hull_rows(book, places, rows, ranking):
     """The hull of the rows: with the fewest rows more that let them suit the order, ascending."""
-    if not are_below(places, len(book.columns)) or not 1 <= len(places) <= MOST_PLACES:
+    if not are_places(book.columns, places):
         raise Refused(places)
     if not are_rows([book.columns[column] for column in places], rows):
         raise Refused(rows)

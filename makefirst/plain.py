@@ -6,9 +6,14 @@ def is_sequence(value):
     return isinstance(value, (list, tuple))
 
 
+def is_whole(value):
+    """Whether any value is an integer."""
+    return isinstance(value, int) and not isinstance(value, bool)
+
+
 def is_below(value, limit):
     """Whether any value is a number below the limit."""
-    return isinstance(value, int) and not isinstance(value, bool) and 0 <= value < limit
+    return is_whole(value) and 0 <= value < limit
 
 
 def are_below(value, limit):

@@ -1,4 +1,4 @@
-"""Promises [1] and [2], of all functions that have landed, and the interface's names and arguments."""
+"""Promises [1], [2] and [4], of all functions, and the interface's names and arguments."""
 
 import ast
 import importlib
@@ -8,8 +8,10 @@ import unittest
 
 from detour_support import LOCK
 from makefirst.books import Book
+from makefirst.desk import Desk
 from makefirst.errors import BadBook, BadState, BadStore, BadText, Knotted, NoCell, NoCheck, NoKind, Refused, TooGreat
 from makefirst.hands import Crew
+from makefirst.keeper import Keeper
 from makefirst.lax import LaxBook
 from makefirst.stores import Store
 from support import MOST, REFERS, any_values, frozen, is_seq, result_of, strict, thawed
@@ -87,6 +89,13 @@ INTERFACE = {
     "parking": {
         "parked_way": "(book, columns, *, most)", "parked_holds": "(book, columns, value)", "parked_lots": "(book, *, most)",
     },
+    "families": {
+        "sum_check": "(columns, places, low, high)", "order_check": "(columns, one, other)", "unlike_check": "(columns, one, other)",
+        "reference_book": "(tables, references)", "longest_chain": "(tables, references)",
+    },
+    "keeper": {"Keeper": "(store, state, hands)"},
+    "claims": {"claim_holds": "(book, value)", "claims_of": "(book, *, most)"},
+    "desk": {"Desk": "(keeper)"},
 }
 
 METHODS = {
@@ -94,6 +103,11 @@ METHODS = {
         "left_of": "(self, number)", "clash_of": "(self, changes)", "begin": "(self, changes)", "next_cells": "(self, number)",
         "move": "(self, number, cell)", "leave": "(self, number)",
     },
+    ("keeper", "Keeper"): {
+        "aim": "(self, new)", "turn_back": "(self)", "renew": "(self, store)", "open_cells": "(self)", "take": "(self, hand, cell)",
+        "put": "(self, hand, cell)", "drop": "(self, hand)",
+    },
+    ("desk", "Desk"): {"say": "(self, line)"},
 }
 
 # What each function may raise, whatever is passed.
@@ -118,7 +132,8 @@ TOLD = {
     "check_changes": ENDS, "change_layers": (*ENDS, Knotted), "clash_paper": ENDS, "go_together": ENDS, "clash_holds": ENDS,
     "is_moment": (*ENDS, Knotted), "Crew": ENDS, "check_shown": (Refused,), "is_let_step": (Refused,), "detour_of": (TooGreat,),
     "stuck_lot": (TooGreat,), "detour_settings": ENDS, "wayless_store": (Refused, TooGreat), "parked_way": (Refused, TooGreat),
-    "parked_holds": (Refused,), "parked_lots": (TooGreat,),
+    "parked_holds": (Refused,), "parked_lots": (TooGreat,), "sum_check": (Refused,), "order_check": (Refused,),
+    "unlike_check": (Refused,), "reference_book": (Refused,), "longest_chain": (Refused,), "Keeper": ENDS, "claims_of": (TooGreat,),
 }
 
 BOOK = Book([2, 2], [REFERS])
@@ -269,6 +284,26 @@ CALLS = [
     ("parking", "parked_holds", [LOCK, [1], WAY], None),
     ("parking", "parked_lots", [LOCK], 300),
     ("parking", "parked_lots", [LOCK], 3),
+    ("families", "sum_check", [[2, 3], [0, 1], 2, None], None),
+    ("families", "sum_check", [[2, 3], [0, 2], 2, None], None),
+    ("families", "order_check", [[2, 3], 0, 1], None),
+    ("families", "order_check", [[2, 3], 0, 2], None),
+    ("families", "unlike_check", [[2, 3], 1, 1], None),
+    ("families", "unlike_check", [[2, 5], 1, 1], None),
+    ("families", "reference_book", [3, [[1, 0], [2, 1]]], None),
+    ("families", "reference_book", [3, [[1, 0], [2, 3]]], None),
+    ("families", "longest_chain", [3, [[1, 0], [2, 1]]], None),
+    ("families", "longest_chain", [2, [[1, 0], [0, 1]]], None),
+    ("families", "longest_chain", [5, [[1, 0], [0, 1]]], None),
+    ("keeper", "Keeper", [STORE, [1, 0, 1], 2], None),
+    ("keeper", "Keeper", [STORE, [1, 0, 1], 9], None),
+    ("claims", "claim_holds", [LOCK, ["parked", [[1], WAY]]], None),
+    ("claims", "claim_holds", [BOOK, ["ranking", ORDER]], None),
+    ("claims", "claim_holds", [ALIKE, ["knot", [[[0, 0, 1], 0, [0, 0], [1, 1], [0]]]]], None),
+    ("claims", "claims_of", [LOCK], 300),
+    ("claims", "claims_of", [ALIKE], 1),
+    ("claims", "claims_of", [LOCK], 3),
+    ("desk", "Desk", [Keeper(STORE, [1, 0, 1], 2)], None),
 ]
 
 
@@ -282,6 +317,11 @@ def shown(value):
         return "lax", shown(value.book), strict(value.ways)
     if isinstance(value, Crew):
         return "crew", shown(value.store), strict(value.state)
+    if isinstance(value, Keeper):
+        names = ("state", "goal", "origin", "left", "taken", "done")
+        return "keeper", shown(value.store), [strict(getattr(value, name)) for name in names]
+    if isinstance(value, Desk):
+        return "desk", shown(value.keeper)
     if isinstance(value, Exception):
         kept = [getattr(value, name) for name in ("at", "most", "kinds", "kind", "cell", "check") if hasattr(value, name)]
         return type(value).__name__, shown(frozen(kept))
@@ -363,7 +403,7 @@ class Basics(unittest.TestCase):
         for value in any_values():
             for file, name, args, most in CALLS:
                 for at in range(len(args)):
-                    if not isinstance(args[at], (Book, Store, LaxBook)):
+                    if not isinstance(args[at], (Book, Store, LaxBook, Keeper)):
                         own = args[:at] + [value] + args[at + 1:]
                         yield name, find(file, name), own, {} if most is None else {"most": most}
 
@@ -431,6 +471,10 @@ class Interface(unittest.TestCase):
         self.assertEqual((LAX.book, len(LAX.ways)), (BOOK, 1))
         crew = Crew(STORE, [1, 0, 1])
         self.assertEqual((crew.store, crew.state), (STORE, (1, 0, 1)))
+        keeper = Keeper(STORE, [1, 0, 1], 2)
+        self.assertEqual((keeper.store, keeper.state, keeper.goal, keeper.origin), (STORE, (1, 0, 1), None, (1, 0, 1)))
+        self.assertEqual((keeper.left, keeper.taken, keeper.done), ((), ((), ()), 0))
+        self.assertIs(Desk(keeper).keeper, keeper)
 
 
 if __name__ == "__main__":

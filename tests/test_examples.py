@@ -1,9 +1,12 @@
-"""The document's examples, as far as they speak of the modules that have landed."""
+"""All examples of the document, and those of the README."""
 
 import doctest
+import pathlib
 import unittest
 
-OVERVIEW = '''
+README = pathlib.Path(__file__).parent.parent / "README.md"
+
+OVERVIEW = r'''
     >>> from makefirst.books import Book
     >>> from makefirst.layers import knot_of, layers_of
     >>> most, least = ((0, 0), ((0, 0), (0, 1), (1, 0))), ((0, 0), ((0, 1), (1, 0), (1, 1)))
@@ -11,7 +14,7 @@ OVERVIEW = '''
     ((((0, 1, 0),), ((0, 0, 1),)), (((0, 0, 1),), ((0, 1, 0),)), ((0, 0, 1), (0, 1, 0)))
 '''
 
-BOOKS_AND_STORES = '''
+BOOKS_AND_STORES = r'''
     >>> from makefirst.books import Book, kinds_of, unlike_by
     >>> from makefirst.stores import Store, batch_cells, batch_kind, broken, is_good, row_at
     >>> from makefirst.texts import book_text, read_state, store_text
@@ -22,15 +25,13 @@ BOOKS_AND_STORES = '''
     >>> store = Store(parents, (0, 1, 1), [(0, (0, 1)), (0, (0, 2))])
     >>> is_good(store, (1, 0, 1)), broken(store, (0, 0, 1)), row_at(store, (0, 0, 1), 1)
     (True, (1,), (0, 1))
-    >>> batch_cells(store, (0, 0, 0), (1, 0, 1))
-    (0, 2)
-    >>> batch_kind(store, (0, 0, 0), (1, 0, 1), 2), batch_kind(store, (0, 0, 0), (1, 0, 1), 1)
-    ((1, 0, 1), None)
-    >>> book_text(parents).split("\\n"), store_text(store).split("\\n")[2:], read_state(store, "1 0 1")
+    >>> batch_cells(store, (0, 0, 0), (1, 0, 1)), batch_kind(store, (0, 0, 0), (1, 0, 1), 2), batch_kind(store, (0, 0, 0), (1, 0, 1), 1)
+    ((0, 2), (1, 0, 1), None)
+    >>> book_text(parents).split("\n"), store_text(store).split("\n")[2:], read_state(store, "1 0 1")
     (['columns 2 2', 'check 0 1: 00 10 11'], ['cells 0 1 1', 'laid 0: 0 1', 'laid 0: 0 2'], (1, 0, 1))
 '''
 
-LAYERS_AND_RANKINGS = '''
+LAYERS_AND_RANKINGS = r'''
     >>> from makefirst.books import Book
     >>> from makefirst.layers import is_let, is_ranked, knot_of, knot_papers, layers_of, papers_hold
     >>> from makefirst.rankings import is_ranking, least_ranking, nth_ranking, openings_of, ranking_place, rankings_many
@@ -46,17 +47,15 @@ LAYERS_AND_RANKINGS = '''
     ((((0, 0, 1), 0, (0, 0), (1, 1), (0,)), ((0, 1, 0), 0, (1, 1), (0, 0), (0,))), True, True)
 '''
 
-STRAIGHT_WAYS = '''
+STRAIGHT_WAYS = r'''
     >>> from makefirst.barring import barring_store, straight_way, way_holds
     >>> from makefirst.books import Book
     >>> from makefirst.stores import Store
     >>> from makefirst.straight import first_fault, is_straight, sorted_cells, told_cells
     >>> most, least = ((0, 0), ((0, 0), (0, 1), (1, 0))), ((0, 0), ((0, 1), (1, 0), (1, 1)))
     >>> one = Store(Book([2], [most]), (0, 0, 0), [(0, (0, 1)), (0, (1, 2)), (0, (0, 2))])
-    >>> sorted_cells(one, (1, 0, 0), (0, 0, 1)), first_fault(one, (1, 0, 0), (0, 0, 1), [2, 0])
-    ((0, 2), (0, 2))
-    >>> is_straight(one, (1, 0, 0), (0, 0, 1), [0, 2])
-    True
+    >>> sorted_cells(one, (1, 0, 0), (0, 0, 1)), first_fault(one, (1, 0, 0), (0, 0, 1), [2, 0]), is_straight(one, (1, 0, 0), (0, 0, 1), [0, 2])
+    ((0, 2), (0, 2), True)
     >>> store, old, new = barring_store(Book([2], [most, least]))
     >>> store.cells, old, new, len(store.laid), store.laid[0]
     ((0, 0, 0, 0, 0, 0), (0, 0, 0, 1, 1, 1), (1, 1, 1, 0, 0, 0), 18, (0, (0, 3)))
@@ -66,22 +65,19 @@ STRAIGHT_WAYS = '''
     ((), False)
 '''
 
-# The document makes the books of this one by makefirst.families, which has not landed.
-ROUNDS = '''
+ROUNDS = r'''
     >>> from makefirst.books import Book
+    >>> from makefirst.families import reference_book, sum_check
     >>> from makefirst.plans import fewest_rounds, plan_holds, round_plan
     >>> from makefirst.slow import slow_papers, slow_store
     >>> from makefirst.stores import Store
-    >>> refers = ((0, 0), (0, 1), (1, 1))
-    >>> shop = Book((2, 2, 2), [((1, 0), refers), ((2, 1), refers)])
+    >>> shop = reference_book(3, [(1, 0), (2, 1)])
     >>> store = Store(shop, (0, 1, 2), [(0, (1, 0)), (1, (2, 1))])
-    >>> round_plan(store, (0, 0, 0), (1, 1, 1)), round_plan(store, (1, 1, 0), (0, 0, 0))
-    (((0,), (1,), (2,)), ((1,), (0,)))
-    >>> fewest_rounds(store, (0, 0, 0), (1, 1, 1), most=8)
-    3
+    >>> round_plan(store, (0, 0, 0), (1, 1, 1)), round_plan(store, (1, 1, 0), (0, 0, 0)), fewest_rounds(store, (0, 0, 0), (1, 1, 1), most=8)
+    (((0,), (1,), (2,)), ((1,), (0,)), 3)
     >>> plan_holds(store, (0, 0, 0), (1, 1, 1), [[0], [1], [2]]), plan_holds(store, (0, 0, 0), (1, 1, 1), [[1, 0], [2]])
     (True, False)
-    >>> pair = Book((2,), [((0, 0), ((0, 0), (0, 1), (1, 0)))])
+    >>> pair = Book((2,), [sum_check((2,), (0, 0), None, 1)])
     >>> slow_papers(pair)
     (((0, 0, 1), 0, (0, 1), (1, 0), (0,)),)
     >>> slow, old, new = slow_store(pair)
@@ -89,7 +85,7 @@ ROUNDS = '''
     ((0, 0, 0, 0), ((0, (0, 2)), (0, (0, 3)), (0, (1, 2)), (0, (1, 3))), (0, 0, 1, 1), (1, 1, 0, 0), 2)
 '''
 
-HULLS_AND_DEFERRING = '''
+HULLS_AND_DEFERRING = r'''
     >>> from makefirst.books import Book
     >>> from makefirst.deferring import barred_kinds, deferred_lots
     >>> from makefirst.hulls import fewest_added, hull_book, hull_rows, suits, suits_paper
@@ -104,7 +100,7 @@ HULLS_AND_DEFERRING = '''
     ((1, ((0, 0, 1), (0, 1, 0))), ((0,), (1,)), ((0, 0, 1),))
 '''
 
-LAX = '''
+LAX = r'''
     >>> from makefirst.books import Book
     >>> from makefirst.lax import LaxBook, is_passable, lax_holds, lax_let, lax_ranking, lax_sorted, lax_store, lax_way
     >>> from makefirst.stores import Store
@@ -117,18 +113,17 @@ LAX = '''
     >>> store = Store(book, (0, 1, 1), [(0, (0, 1)), (0, (0, 2))])
     >>> lax_sorted(lax, store, (0, 0, 0), (1, 1, 1), lax_ranking(lax, most=99)), is_passable(lax, store, (1, 0, 1))
     ((0, 1, 2), True)
-    >>> lax_way(lax, store, (1, 1, 1), (0, 0, 0), most=99) in ((1, 2, 0), (2, 1, 0))
-    True
-    >>> lax_way(LaxBook(book, [book.checks[0][1]]), store, (0,) * 3, (1,) * 3, most=9)
+    >>> lax_way(lax, store, (1, 1, 1), (0, 0, 0), most=99) in ((1, 2, 0), (2, 1, 0)), lax_way(LaxBook(book, [book.checks[0][1]]), store, (0,) * 3, (1,) * 3, most=9)
+    (True, None)
     >>> some, old, new = lax_store(LaxBook(book, [[(0, 0), (1, 1)]]), most=99)
     >>> len(some.cells), len(some.laid)
     (8, 8)
 '''
 
-ORDERS = '''
+ORDERS = r'''
     >>> from makefirst.books import Book
-    >>> from makefirst.orders import least_group, least_order, nth_order, order_holds, order_paper, order_place, orders_many
-    >>> from makefirst.orders import pair_ahead, pair_order, sure_ahead
+    >>> from makefirst.orders import least_group, least_order, nth_order, order_holds, order_paper, order_place, orders_many, pair_ahead
+    >>> from makefirst.orders import pair_order, sure_ahead
     >>> from makefirst.stores import Store
     >>> parents = Book((2, 2), [((0, 1), [(0, 0), (1, 0), (1, 1)])])
     >>> store = Store(parents, (1, 0, 1), [(0, (1, 0)), (0, (1, 2))])
@@ -144,7 +139,7 @@ ORDERS = '''
     (True, False)
 '''
 
-HANDS = '''
+HANDS = r'''
     >>> from makefirst.books import Book
     >>> from makefirst.hands import Crew, change_layers, clash_paper, go_together, is_moment
     >>> from makefirst.layers import is_ranked
@@ -161,7 +156,7 @@ HANDS = '''
     (0, (), 1, None, 1, (0,))
 '''
 
-DETOURS = '''
+DETOURS = r'''
     >>> from makefirst.books import Book
     >>> from makefirst.detours import detour_holds, detour_of, detour_settings, fates_of, is_let_step, stuck_holds, stuck_lot
     >>> from makefirst.parking import parked_holds, parked_lots
@@ -181,6 +176,54 @@ DETOURS = '''
     ((2, 1), (0, 1), (1, 0), (2, 0))
     >>> parked_lots(lock, most=300), parked_holds(lock, [1], way), parked_holds(lock, [0], way), detour_holds(lock, way[1:])
     (((1,),), True, False, False)
+'''
+
+FAMILIES = r'''
+    >>> from makefirst.books import Book
+    >>> from makefirst.families import longest_chain, order_check, reference_book, sum_check, unlike_check
+    >>> from makefirst.layers import is_ranked, knot_of, layers_of
+    >>> sum_check((2, 3), (0, 1), 2, None), order_check((2, 2), 0, 1), unlike_check((2,), 0, 0)
+    (((0, 1), ((0, 2), (1, 1), (1, 2))), ((0, 1), ((0, 0), (0, 1), (1, 1))), ((0, 0), ((0, 1), (1, 0))))
+    >>> layers_of(Book((2,), [sum_check((2,), (0, 0), None, 1)])), knot_of(Book((2,), [sum_check((2,), (0, 0), 1, 1)]))
+    ((((0, 1, 0),), ((0, 0, 1),)), ((0, 0, 1), (0, 1, 0)))
+    >>> longest_chain(3, [(1, 0), (2, 1), (2, 0)]), longest_chain(2, [(0, 0)]), layers_of(reference_book(2, [(1, 0)]))
+    (3, None, (((0, 0, 1), (1, 1, 0)), ((0, 1, 0), (1, 0, 1))))
+    >>> is_ranked(Book((3, 2), [unlike_check((3, 2), 0, 1)])), is_ranked(Book((3, 1), [unlike_check((3, 1), 0, 1)]))
+    (False, True)
+'''
+
+KEEPERS = r'''
+    >>> from makefirst.books import Book
+    >>> from makefirst.keeper import Keeper
+    >>> from makefirst.stores import Store
+    >>> most = ((0, 0), ((0, 0), (0, 1), (1, 0)))
+    >>> store = Store(Book([2], [most]), [0, 0, 0], [(0, (0, 1)), (0, (0, 2)), (0, (1, 2))])
+    >>> keeper = Keeper(store, (1, 0, 0), 2)
+    >>> keeper.aim((0, 0, 1)), keeper.left, keeper.open_cells()
+    (None, ((0,), (2,)), (0,))
+    >>> keeper.take(1, 0), keeper.open_cells(), keeper.put(1, 0), keeper.state, keeper.open_cells()
+    (None, (), 0, (0, 0, 0), (2,))
+    >>> keeper.turn_back(), keeper.left, keeper.take(0, 0), keeper.put(0, 0), keeper.goal, keeper.state, keeper.done
+    (None, ((0,),), None, 1, None, (1, 0, 0), 2)
+    >>> keeper.aim((0, 1, 0)), keeper.renew(Store(Book([2]), [0, 0, 0])), keeper.left
+    (None, None, ((0, 1),))
+'''
+
+CLAIMS_AND_DESKS = r'''
+    >>> from makefirst.books import Book
+    >>> from makefirst.claims import claim_holds, claims_of
+    >>> from makefirst.desk import Desk
+    >>> from makefirst.keeper import Keeper
+    >>> from makefirst.stores import Store
+    >>> most = ((0, 0), ((0, 0), (0, 1), (1, 0)))
+    >>> store = Store(Book([2], [most]), [0, 0, 0], [(0, (0, 1)), (0, (0, 2)), (0, (1, 2))])
+    >>> claims_of(Book([2], [most]), most=500)[0], [word for word, paper in claims_of(Book([2], [((0, 0), [(0, 0), (1, 1)])]), most=500)]
+    (('ranking', ((0, 1, 0), (0, 0, 1))), ['knot', 'stuck'])
+    >>> claim_holds(Book([2], [most]), ["ranking", [[0, 1, 0], (0, 0, 1)]]), claim_holds(Book([2], [most]), ("knot", ()))
+    (True, False)
+    >>> desk = Desk(Keeper(store, (1, 0, 0), 2))
+    >>> [desk.say(line) for line in ("aim 0 0 1", "open", "take 0 2", "take 0 0", "put 0 0", "back", "state", "goal", "aim 1 1 0", "drop 5", "lift")]
+    ['left 2', 'open 0', 'no', 'taken', 'value 0', 'left 1', 'state 0 0 0', 'goal 1 0 0', 'no', 'no', '?']
 '''
 
 
@@ -222,6 +265,18 @@ class Examples(unittest.TestCase):
 
     def test_detours(self):
         self.run_all(DETOURS)
+
+    def test_families(self):
+        self.run_all(FAMILIES)
+
+    def test_keepers(self):
+        self.run_all(KEEPERS)
+
+    def test_claims_and_desks(self):
+        self.run_all(CLAIMS_AND_DESKS)
+
+    def test_readme(self):
+        self.run_all(README.read_text(encoding="utf-8"))
 
 
 if __name__ == "__main__":

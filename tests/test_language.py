@@ -22,7 +22,7 @@ METHODS = """
 """.split()
 
 NODES = (
-    ast.AsyncFunctionDef, ast.AsyncFor, ast.AsyncWith, ast.Await, ast.Global, ast.Try, ast.With, ast.Match, ast.NamedExpr,
+    ast.AsyncFunctionDef, ast.AsyncFor, ast.AsyncWith, ast.Await, ast.Global, ast.With, ast.Match, ast.NamedExpr,
     ast.GeneratorExp, ast.Yield, ast.YieldFrom, ast.Div, ast.MatMult, ast.Import, ast.JoinedStr, ast.Pow,
 )
 
@@ -174,6 +174,16 @@ class Language(unittest.TestCase):
         for stem, tree in trees().items():
             lines = [node.lineno for node in ast.walk(tree) if isinstance(node, ast.Lambda)]
             self.assertEqual(len(set(lines)), len(lines), stem)
+
+    def test_only_own_errors_are_caught(self):
+        own = defined(trees()["errors"])
+        for stem, tree in trees().items():
+            for node in ast.walk(tree):
+                if isinstance(node, ast.Try):
+                    self.assertEqual(node.finalbody, [], (stem, node.lineno))
+                if isinstance(node, ast.ExceptHandler):
+                    caught = node.type.elts if isinstance(node.type, ast.Tuple) else [node.type]
+                    self.assertLessEqual({named(error) for error in caught}, set(own), (stem, node.lineno))
 
     def test_strings(self):
         for stem, tree in trees().items():
